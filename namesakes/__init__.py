@@ -1,0 +1,1 @@
+"""Who can bear whose name, by a custom of naming."""

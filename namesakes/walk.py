@@ -1,0 +1,91 @@
+"""A walk through the rows of a record that names each child by a custom."""
+
+from namesakes.clauses import Case
+from namesakes.errors import BadChoice
+from namesakes.records import WAYS
+
+
+class Walk:
+    """The names that stand behind the rows gone so far; it changes row by row."""
+
+    def __init__(self, custom):
+        self.custom = custom
+        self.kinds = {}
+        self.parents = {}
+        self.dead = {}
+        self.givens = {}
+        self.first_houses = {}
+        self.houses = {}
+        self.clause_numbers = {}
+        self.passed = {}
+        self.frees = {}
+        self.children = {}
+
+    def go(self, row):
+        """Go on by one row; raise BadChoice for a choice that counts and is barred."""
+        if row[0] == "comes":
+            self._bring(row[1], row[2], row[3], row[4])
+        elif row[0] == "weds":
+            self._wed(row[1], row[2])
+        elif row[0] == "born":
+            case = self.case_of(row[1], row[2], row[3])
+            named = self.custom(case)
+            name = named.name
+            if name is None:
+                name = row[5]
+                bar = self.custom.barred(case, name)
+                if bar is not None:
+                    raise BadChoice(row[4], name, bar)
+            self._bear(row, named, name)
+        else:
+            self.dead[row[1]] = True
+
+    def case_of(self, father, mother, kind):
+        """The Case of a child of this kind born to this couple now."""
+        elders = self._elders_of_child(father, mother)
+        names = {way: self.givens[elder] for way, elder in elders.items()}
+        for letter, parent in (("f", father), ("m", mother)):
+            for place, name in enumerate(self.houses[parent]):
+                names[f"{letter}.{place}"] = name
+        lives = {way: "dead" if elder in self.dead else "alive" for way, elder in elders.items()}
+        children = self.children[father, mother]
+        number = 1 + len([child for child in children if self.kinds[child] == kind])
+        ever = [self.givens[child] for child in children]
+        borne = [self.givens[child] for child in children if child not in self.dead]
+        return Case(kind, number, names, lives, borne, ever)
+
+    def _elders_of_child(self, father, mother):
+        """The elders of a child of these two by the ways that lead to somebody."""
+        elders = {"f": father, "m": mother}
+        for way in WAYS:
+            below = elders.get(way[:-1])
+            if len(way) > 1 and below in self.parents:
+                elders[way] = self.parents[below][0 if way[-1] == "f" else 1]
+        return elders
+
+    def _bring(self, label, kind, given, house):
+        self.kinds[label] = kind
+        self.givens[label] = given
+        self.first_houses[label] = house
+        self.houses[label] = house
+        self.clause_numbers[label] = None
+        self.passed[label] = ()
+        self.frees[label] = False
+
+    def _wed(self, father, mother):
+        house, mate = self.houses[father], self.houses[mother]
+        self.houses[father] = self.custom.house_at_wedding("s", house, mate)
+        self.houses[mother] = self.custom.house_at_wedding("d", mate, house)
+        self.children[father, mother] = []
+
+    def _bear(self, row, named, name):
+        father, mother, label = row[1], row[2], row[4]
+        house = self.custom.house_at_birth(
+            self.houses[father], self.houses[mother], self.givens[father], self.givens[mother]
+        )
+        self._bring(label, row[3], name, house)
+        self.parents[label] = (father, mother)
+        self.children[father, mother].append(label)
+        self.clause_numbers[label] = named.index
+        self.passed[label] = named.passed
+        self.frees[label] = named.name is None
