@@ -1,0 +1,67 @@
+"""The examples that stand in the document, as far as they need no later part."""
+
+import unittest
+
+from namesakes.allpatterns import all_patterns, how_many_patterns
+from namesakes.clauses import Dead, Free, Never, Take, Unborne
+from namesakes.customs import Custom
+from namesakes.joinings import all_joinings, joining_at
+from namesakes.kin import kinship_of
+from namesakes.moved import mirror_record
+from namesakes.naming import Naming
+from namesakes.patterns import Pattern
+from namesakes.reads import reads_of
+from namesakes.records import Record, record_fault
+from namesakes.recordtext import record_text
+from namesakes.scopes import Scope
+from namesakes.states import PersonState
+from namesakes.steps import following_steps, founder_steps, wedding_steps
+
+
+class ExamplesTest(unittest.TestCase):
+    def test_records(self):
+        rows = [("comes", "a", "s", 1, ()), ("comes", "b", "d", 2, ()), ("weds", "a", "b"), ("born", "a", "b", "s", "c", 3)]
+        record = Record(0, rows)
+        self.assertEqual(
+            (record.couples, record.elder_of("c", "m"), record.number_of("c"), kinship_of(record, "c", "b")),
+            ((("a", "b"),), "b", 1, ("m", "")),
+        )
+        self.assertEqual(record_fault(0, rows + [("born", "b", "a", "d", "e", 4)]), (4, "couple"))
+        self.assertEqual(record_text(mirror_record(record)), "width 0\ncomes a d 1\ncomes b s 2\nweds b a\nborn b a d c 3")
+
+    def test_reads(self):
+        custom = Custom([Take("ff"), Free()], [Take("m.0", Never()), Free()], house=[("f", 0)],
+                        son_weds=["own"], daughter_weds=[0])
+        reads = reads_of(custom)
+        self.assertEqual((reads.places("s"), reads.places("d"), reads.tracked), (("", "f", ".0"), (".0",), ("m.0",)))
+
+    def test_naming(self):
+        custom = Custom([Take("ff", Unborne()), Free("living")], [Take("mm"), Free("ever")])
+        rows = [("comes", "a", "s", 1, ()), ("comes", "b", "d", 2, ()), ("weds", "a", "b"),
+                ("born", "a", "b", "s", "c", 3), ("comes", "e", "d", 4, ()), ("weds", "c", "e"),
+                ("born", "c", "e", "s", "g", 9), ("born", "c", "e", "s", "h", 5)]
+        naming = Naming(custom, Record(0, rows))
+        told = [(who, naming.given_of(who), naming.clause_of(who), naming.passed_of(who)) for who in ("c", "g", "h")]
+        self.assertEqual(told, [("c", 3, 1, ("nobody",)), ("g", 1, 0, ()), ("h", 5, 1, (0,))])
+
+    def test_patterns(self):
+        self.assertEqual([pattern.entries for pattern in all_patterns(3)],
+                         [(0, 0, 0), (0, 0, 1), (0, 1, 0), (0, 1, 1), (0, 1, 2)])
+        self.assertEqual((how_many_patterns(6), how_many_patterns(5, nobody=True)), (203, 203))
+
+    def test_joinings(self):
+        one, other = Pattern((0, 1, 0)), Pattern((0, None, 1))
+        self.assertEqual([joining.links for joining in all_joinings(one, other)],
+                         [(None, None), (None, 0), (None, 1), (0, None), (0, 1), (1, None), (1, 0)])
+        self.assertEqual(joining_at(one, other, 5).joined.entries, (0, 1, 0, 1, None, 2))
+
+    def test_steps(self):
+        scope = Scope(Custom([Take("ff", Dead("ff"), Unborne()), Free("ff")], [Free()]))
+        self.assertEqual([scope.places(kind) for kind in "sd"], [("", "f"), ()])
+        self.assertEqual([scope.life_ways(kind) for kind in "sd"], [("f",), ()])
+        states = [step.results[0] for step in founder_steps(scope)]
+        self.assertEqual(states, [PersonState("s", (0, None), (None,)), PersonState("d", (), ())])
+        couple = next(wedding_steps(scope, *states)).results[0]
+        born = [step for step in following_steps(scope, couple) if step.deed[0] == "born"]
+        self.assertEqual((born[0].deed, born[0].results[1]), (("born", "s", 1, 0), PersonState("s", (0, 0), ("alive",))))
+        self.assertEqual((born[1].deed, born[1].results[1]), (("born", "s", 1, None), PersonState("s", (0, 1), ("alive",))))
