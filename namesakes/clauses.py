@@ -29,6 +29,11 @@ def mirrored_source(source):
     return "".join([OTHER_LETTER.get(letter, letter) for letter in source])
 
 
+def listed(things):
+    """The texts of the things, as they stand behind one another in a row of a custom's text."""
+    return ", ".join([str(thing) for thing in things])
+
+
 class Case:
     """What a custom sees of one birth."""
 
@@ -231,10 +236,9 @@ class Take:
         return type(self) is type(other) and self.source == other.source and self.conditions == other.conditions
 
     def __str__(self):
-        told = ", ".join([str(condition) for condition in self.conditions])
-        if not told:
+        if not self.conditions:
             return f"take {self.source}"
-        return f"take {self.source} if {told}"
+        return f"take {self.source} if {listed(self.conditions)}"
 
 
 class Free:
@@ -257,7 +261,7 @@ class Free:
             if bar in words:
                 if name in words[bar]:
                     return index
-            elif name is not None and case.names.get(bar) == name:
+            elif case.names.get(bar) is not None and case.names[bar] == name:
                 return index
         return None
 
@@ -286,10 +290,9 @@ class Free:
         return type(self) is type(other) and self.bars == other.bars
 
     def __str__(self):
-        told = ", ".join(self.bars)
-        if not told:
+        if not self.bars:
             return "free"
-        return f"free not {told}"
+        return f"free not {listed(self.bars)}"
 
 
 def reads_beyond(clause, width):

@@ -1,6 +1,6 @@
 """Customs: the clauses by which children are named, and the rules for house names."""
 
-from namesakes.clauses import Free, Take, mirrored_source, reads_beyond
+from namesakes.clauses import Free, Take, listed, mirrored_source, reads_beyond
 from namesakes.errors import BadCustom, BadKind
 from namesakes.records import MOST_WIDTH, PARENT_KIND, is_kind, is_sequence, is_whole
 
@@ -170,11 +170,17 @@ class Custom:
         )
 
     def __str__(self):
-        rows = ["custom", "sons"] + [str(clause) for clause in self.sons]
-        rows = rows + ["daughters"] + [str(clause) for clause in self.daughters]
-        if self.width:
-            rules = ", ".join([f"{first} {second}" for first, second in self.house])
-            son_weds = ", ".join([str(rule) for rule in self.son_weds])
-            daughter_weds = ", ".join([str(rule) for rule in self.daughter_weds])
-            rows = rows + [f"house {rules}", f"sons wed {son_weds}", f"daughters wed {daughter_weds}"]
-        return "\n".join(rows)
+        return "\n".join(_text_rows(self))
+
+
+def _text_rows(custom):
+    """The rows of the custom's text."""
+    rows = ["custom", "sons"] + [str(clause) for clause in custom.sons]
+    rows.append("daughters")
+    rows.extend([str(clause) for clause in custom.daughters])
+    if custom.width:
+        rules = listed([f"{first} {second}" for first, second in custom.house])
+        rows.append(f"house {rules}")
+        rows.append(f"sons wed {listed(custom.son_weds)}")
+        rows.append(f"daughters wed {listed(custom.daughter_weds)}")
+    return rows

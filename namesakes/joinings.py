@@ -3,7 +3,7 @@
 from math import comb, perm
 
 from namesakes.errors import BadClass, BadIndex, BadJoining, BadMatch
-from namesakes.patterns import MOST_PLACES, Pattern, check_names, numbered
+from namesakes.patterns import MOST_PLACES, Pattern, numbered
 from namesakes.records import is_sequence, is_whole
 
 
@@ -164,10 +164,7 @@ def _links_of(one, other, entries):
 
 def joining_of_names(one_names, other_names):
     """The joining of two rows' patterns in which equal names are linked."""
-    check_names(one_names)
-    check_names(other_names)
     one, other = Pattern.of_names(one_names), Pattern.of_names(other_names)
-    _check_places(one, other)
     numbers = numbered(tuple(one_names) + tuple(other_names))
     return Joining(one, other, _links_of(one, other, numbers[len(one_names):]))
 
@@ -191,10 +188,11 @@ def how_many_joined(patterns):
     """The number of patterns that show each of these side by side."""
     # Entry k of the list counts those that have k classes so far. A further
     # class is a new one, or it is linked with one of those classes that no
-    # earlier class of its own pattern is linked with or has brought.
+    # earlier class of its own pattern is linked with or has brought. Where
+    # there are fewer classes than those, the count is 0.
     counts = [1]
     for pattern in patterns:
         for taken in range(pattern.class_count):
-            linked = [max(0, classes - taken) * count for classes, count in enumerate(counts)] + [0]
+            linked = [(classes - taken) * count for classes, count in enumerate(counts)] + [0]
             counts = [more + count for more, count in zip(linked, [0] + counts)]
     return sum(counts)

@@ -5,7 +5,6 @@ from namesakes.records import WAYS
 
 def ways_to(record, label):
     """Pairs (way, elder) for the ways of 1 to 3 letters that lead to somebody."""
-    record.check_person(label)
     pairs = [(way, record.elder_of(label, way)) for way in WAYS if way]
     return tuple([(way, elder) for way, elder in pairs if elder is not None])
 
@@ -40,8 +39,6 @@ def are_kin(record, one, other):
 
 def kinship_of(record, one, other):
     """The nearest pair (way, back) to a common person, or None."""
-    record.check_person(one)
-    record.check_person(other)
     pairs = []
     for place, way in enumerate(WAYS):
         for back_place, back in enumerate(WAYS):

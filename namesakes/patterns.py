@@ -88,15 +88,11 @@ class Pattern:
 
     def __or__(self, other):
         """The finest pattern for which both are finer than it."""
-        if not isinstance(other, Pattern):
-            return NotImplemented
         check_match(self, other)
         return Pattern(numbered(_merged(self.entries, other.entries)))
 
     def __and__(self, other):
         """The coarsest pattern that is finer than both."""
-        if not isinstance(other, Pattern):
-            return NotImplemented
         check_match(self, other)
         pairs = [(entry, other.entries[place]) for place, entry in enumerate(self.entries)]
         return Pattern(numbered([None if pair[0] is None else pair for pair in pairs]))

@@ -162,8 +162,8 @@ def _newborn(scope, couple, case, name):
     """The child of this case that gets this name."""
     kind = case.kind
     house = scope.custom_for(couple, kind).house
-    # A new name is unlike all places, and the number of a followed name as well.
-    own = couple.classes + 1 if name is None else name
+    # The number behind all classes is unlike all places, as a new name is.
+    own = couple.classes if name is None else name
     names = []
     for place in scope.places(kind):
         if place == "":

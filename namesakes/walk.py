@@ -10,6 +10,7 @@ class Walk:
 
     def __init__(self, custom):
         self.custom = custom
+        # Kinds and parents are those of the persons who were born.
         self.kinds = {}
         self.parents = {}
         self.dead = {}
@@ -24,7 +25,7 @@ class Walk:
     def go(self, row):
         """Go on by one row; raise BadChoice for a choice that counts and is barred."""
         if row[0] == "comes":
-            self._bring(row[1], row[2], row[3], row[4])
+            self._bring(row[1], row[3], row[4])
         elif row[0] == "weds":
             self._wed(row[1], row[2])
         elif row[0] == "born":
@@ -59,12 +60,11 @@ class Walk:
         elders = {"f": father, "m": mother}
         for way in WAYS:
             below = elders.get(way[:-1])
-            if len(way) > 1 and below in self.parents:
+            if below in self.parents:
                 elders[way] = self.parents[below][0 if way[-1] == "f" else 1]
         return elders
 
-    def _bring(self, label, kind, given, house):
-        self.kinds[label] = kind
+    def _bring(self, label, given, house):
         self.givens[label] = given
         self.first_houses[label] = house
         self.houses[label] = house
@@ -83,7 +83,8 @@ class Walk:
         house = self.custom.house_at_birth(
             self.houses[father], self.houses[mother], self.givens[father], self.givens[mother]
         )
-        self._bring(label, row[3], name, house)
+        self._bring(label, name, house)
+        self.kinds[label] = row[3]
         self.parents[label] = (father, mother)
         self.children[father, mother].append(label)
         self.clause_numbers[label] = named.index

@@ -142,7 +142,7 @@ class CustomTest(Checks):
         one = Named(1, "take", 1, (0,))
         self.assertEqual(one, Named(1, "take", 1, (0,)))
         self.unlike_all(one, Named(0, "take", 1, (0,)), Named(1, "free", 1, (0,)), Named(1, "take", 2, (0,)),
-                        Named(1, "take", 1, (1,)), (1, "take", 1, (0,)))
+                        Named(1, "take", 1, (1,)), (1, "take", 1, (0,)), None)
 
     def test_barred_and_allows(self):
         custom = Custom([Take("f", Number(1)), Free("f", "living")], [Free("m")])

@@ -65,7 +65,7 @@ class CustomTextTest(Checks):
             "take f if unlike x f", "take f if unlike f, m", "take f if unlike f  m", "take f if free", "take f if take f",
             "take f if number 1 if number 2", "take f if never, never, never, never, never", "take f not m", "take not f",
             "take f\r", "take f if number one", "sons", "custom", "dead f", "number 1", "taken f", "takef",
-            "take f if Unborne", "take f if living f", "take f if unalike f m",
+            "f", "m", "ff if number 1", "living", "not f", "f, m", "take f if Unborne", "take f if living f", "take f if unalike f m",
         ]
         for row in wrong:
             self.refused(BadText, (3, "clause"), parse_custom, plain([row, "free"]))
@@ -104,7 +104,7 @@ class CustomTextTest(Checks):
         for row in ("", " ", "house", "house ", "house x", "house f", "house f 1", "house f 0 ", "house  f 0", "house f  0",
                     "house f 0,", "house f 0, ", "house f 0,m 0", "house f 0, f 0, f 0", "house given", "house given 0",
                     "house given s", "house f f", "house f 00", "house f -1", "house f 0, f 2", "house x 0", "House f 0",
-                    "house f.0", "house given f m", "house own", "sons wed own", "house f \u0660", "house f 0, x", "housef 0"):
+                    "house f.0", "house given f m", "house own", "f 0", "given m", "m 0, f 1", "sons wed own", "house f \u0660", "house f 0, x", "housef 0"):
             self.refused(BadText, (6, "house"), parse_custom, plain(["free"], ["free"], row, *weds))
             self.refused(BadText, (6, "house"), parse_custom, plain(["free"], ["free"], row))
         custom = parse_custom(plain(["free"], ["free"], "house given f", *weds))
@@ -116,7 +116,7 @@ class CustomTextTest(Checks):
             for row in ("", head, head.strip(), head + "own", head + "own, own, own", head + "own,own", head + "own,  own",
                         head + "own, 2", head + "own, -1", head + "own, 00", head + "own, ", " " + head + "own, own",
                         head + "own, own ", head + " own, own", head + "own, x", head + "Own, own", head + "0,1", head + ", own",
-                        head.title() + "own, own", head + "own, \u0660", ROWS[19 - place], "free"):
+                        "own, own", "0, 1", head.title() + "own, own", head + "own, \u0660", ROWS[19 - place], "free"):
                 self.refused(BadText, (place + 1, "wedding"), parse_custom, text(ROWS[:place] + [row] + ROWS[place + 1:]))
             custom = parse_custom(text(ROWS[:place] + [head + "1, 0"] + ROWS[place + 1:]))
             self.assertEqual((custom.son_weds, custom.daughter_weds)[place - 9], (1, 0))

@@ -122,8 +122,8 @@ class MovedTest(Checks):
         kept = sorted(kept + [7, 8, 13])
         self.assertEqual(cut_record(record, "h"), Record(0, [rows[index] for index in kept]))
         self.assertEqual(cut_record(record, "i"), cut_record(record, "h"))
-        self.refused(NoPerson, ("x",), cut_record, record, "x")
-        self.refused(NoPerson, (None,), cut_record, record, None)
+        for thing in ODD_THINGS + ("x",):
+            self.refused(NoPerson, (thing,), cut_record, record, thing)
 
     def test_a_lone_founder(self):
         record = Record(0, [("comes", "a", "s", 1, ()), ("comes", "b", "s", 1, ()), ("dies", "a")])

@@ -131,6 +131,32 @@ class NamingTest(Checks):
                          Naming(Custom([Take("f", Dead("f")), Free()], FREE), record))
         self.unlike_all(Naming(passed[0], record), Naming(passed[1], record))
 
+    def test_equality_asks_the_order_of_labels(self):
+        one, other = Record(0, PAIR[:2]), Record(0, [PAIR[1], PAIR[0]])
+        self.unlike_all(Naming(Custom(FREE, FREE), one), Naming(Custom(FREE, FREE), other))
+
+    def test_equality_asks_the_clause(self):
+        # The same person with the same names, once a founder and once a child named by the first Take.
+        custom = Custom([Take("f"), Free()], FREE)
+        born = Record(0, PAIR + [("born", "a", "b", "s", "c", 9)])
+        founder = Record(0, PAIR + [("comes", "c", "s", 1, ())])
+        self.unlike_all(Naming(custom, born), Naming(custom, founder))
+
+    def test_equality_asks_why_clauses_were_passed_over(self):
+        record = Record(0, PAIR + [("born", "a", "b", "s", "c", 9)])
+        takes = (Take("ff"), Take("f", Number(2)), Take("f", Number(1), Number(2)))
+        namings = [Naming(Custom([take, Free()], FREE), record) for take in takes]
+        self.assertEqual([naming.passed_of("c") for naming in namings], [("nobody",), (0,), (1,)])
+        self.unlike_all(namings[0], *namings[1:])
+        self.unlike_all(namings[1], namings[2])
+
+    def test_equality_asks_the_first_house_names(self):
+        custom = Custom(FREE, FREE, house=[("f", 0)], son_weds=[0])
+        records = [Record(1, [("comes", "a", "s", 1, (name,)), ("comes", "b", "d", 1, (6,)), ("weds", "a", "b")]) for name in (5, 7)]
+        namings = [Naming(custom, record) for record in records]
+        self.assertEqual([naming.house_of("a") for naming in namings], [(6,), (6,)])
+        self.unlike_all(*namings)
+
     def test_equality_of_house_names(self):
         own, mate = [Custom(FREE, FREE, house=[("f", 0)], son_weds=[rule]) for rule in ("own", 0)]
         record = Record(1, [("comes", "a", "s", 1, (5,)), ("comes", "b", "d", 1, (6,)), ("weds", "a", "b")])

@@ -155,12 +155,6 @@ class ComparedTest(Checks):
         self.assertEqual((one | other).entries, (0,) * 40)
         self.assertEqual((one & other).entries, tuple(range(40)))
 
-    def test_no_pattern_beside_the_sign(self):
-        with self.assertRaises(TypeError):
-            Pattern(()) | ()
-        with self.assertRaises(TypeError):
-            Pattern(()) & None
-
 
 class NamesTest(Checks):
     def test_first_difference(self):

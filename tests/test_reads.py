@@ -137,6 +137,7 @@ class ReadsTest(Checks):
         self.assertEqual(reads_of(custom, **base), reads_of(custom, names=("f", "m"), lives=("ff", "f"), tracked=("m",)))
         for more in ({"names": ["ff"]}, {"lives": ["fm"]}, {"tracked": ["f"]}):
             self.unlike_all(reads_of(custom, **base), reads_of(custom, **{**base, **more}))
+        self.unlike_all(reads_of(custom, names=["f"]), reads_of(custom, tracked=["f"]))
         numbered = Custom([Take("m", Number(1)), Free()], FREE)
         self.unlike_all(reads_of(custom, names=["m"]), reads_of(numbered), told(reads_of(custom)), None)
 

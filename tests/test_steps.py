@@ -139,6 +139,19 @@ class WeddingTest(Checks):
         couple = next(wedding_steps(scope, PersonState("s", (), ()), PersonState("d", (), ()))).results[0]
         self.assertEqual(couple, CoupleState((), (), 0, 0, ((0, 0),)))
 
+    def test_each_kind_is_asked_for_its_own_custom(self):
+        class Told(Scope):
+            def wedding_custom(self, kind, mark):
+                return self.customs["sd".index(kind)]
+
+        takes = [Take("f.0"), Take("m.0"), Free()]
+        swap = Custom(takes, FREE, house=[("f", 0)], son_weds=[0], daughter_weds=[0])
+        stay = Custom(takes, FREE, house=[("f", 0)])
+        states = PersonState("s", (0,), ()), PersonState("d", (0,), ())
+        # Behind a swap both have the name of the one whose kind's custom keeps it.
+        for customs, links in (((swap, stay), (0, 0)), ((stay, swap), (0, 0)), ((stay, stay), (0, 1)), ((swap, swap), (0, 1))):
+            self.assertEqual(next(wedding_steps(Told(*customs), *states)).results[0].names, links)
+
     def test_each_side_weds_by_the_custom_of_its_mark(self):
         one = Custom([Take("f.0"), Take("m.0"), Free()], FREE, house=[("f", 0)])
         other = Custom(one.sons, FREE, house=[("m", 0)], son_weds=[0], daughter_weds=[0])
