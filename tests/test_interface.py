@@ -1,0 +1,100 @@
+"""The interface: names, arguments, and methods in the class itself, each in its own file."""
+
+import importlib
+import inspect
+import unittest
+
+FUNCTIONS = {
+    "records": ["is_whole(thing, low, high)", "is_name(thing)", "is_label(thing)", "is_kind(thing)", "is_way(thing, least, most)",
+                "record_fault(width, rows)", "beginnings(record)"],
+    "kin": ["ways_to(record, label)", "elders_of(record, label)", "are_kin(record, one, other)",
+            "kinship_of(record, one, other)", "kin_weddings(record)"],
+    "moved": ["mirror_record(record)", "rename_record(record, pairs)", "relabel_record(record, pairs)",
+              "records_beside(one, other)", "cut_record(record, label)"],
+    "recordtext": ["record_text(record)", "parse_record(text)", "person_rows(record)"],
+    "reads": ["reads_of(*customs, names=(), lives=(), tracked=(), houses=False)"],
+    "customtext": ["parse_custom(text)"],
+    "naming": ["fits(custom, record)", "birth_case(naming, father, mother, kind)"],
+    "patterns": ["is_finer(one, other)", "first_difference(pattern, names)", "names_for(pattern, names)", "renaming_of(one, other)"],
+    "joinings": ["all_joinings(one, other)", "how_many_joinings(one, other)", "joining_index(joining)",
+                 "joining_at(one, other, index)", "apart_joining(one, other)", "joining_of(one, other, pattern)",
+                 "joining_of_names(one_names, other_names)", "all_joined(patterns)", "how_many_joined(patterns)"],
+    "alikes": ["namesakes_among(naming)", "first_clash(naming)", "clauses_used(naming)"],
+    "allpatterns": ["all_patterns(size, *, nobody=False)", "how_many_patterns(size, *, nobody=False)",
+                    "pattern_index(pattern, *, nobody=False)", "pattern_at(size, index, *, nobody=False)",
+                    "how_many_rows(pattern, pool)", "name_rows(pattern, names)"],
+    "steps": ["founder_steps(scope)", "wedding_steps(scope, father, mother)", "following_steps(scope, state)",
+              "case_of(scope, couple, kind)", "birth_names(scope, couple, kind)"],
+}
+CLASSES = {
+    "records.Record": ["__init__(width, rows=())", "kind_of(label)", "father_of(label)", "mother_of(label)", "elder_of(label, way)",
+                       "mate_of(label)", "mates_of(label)", "children_of(father, mother)", "siblings_of(label)",
+                       "number_of(label)", "is_alive(label)", "row_of(label)", "after(*rows)", "until(many)", "shorter()",
+                       "__eq__(other)", "__len__()", "__iter__()"],
+    "clauses.Case": ["__init__(kind, number, names, lives, borne=(), ever=())"],
+    "clauses.Number": ["__init__(n)", "holds(case, source)", "__eq__(other)", "__str__()"],
+    "clauses.Alive": ["__init__(way)", "holds(case, source)", "__eq__(other)", "__str__()"],
+    "clauses.Dead": ["__init__(way)", "holds(case, source)", "__eq__(other)", "__str__()"],
+    "clauses.Unborne": ["holds(case, source)", "__eq__(other)", "__str__()"],
+    "clauses.Never": ["holds(case, source)", "__eq__(other)", "__str__()"],
+    "clauses.Unlike": ["__init__(one, other)", "holds(case, source)", "__eq__(other)", "__str__()"],
+    "clauses.Take": ["__init__(source, *conditions)", "passed_over(case)", "__eq__(other)", "__str__()"],
+    "clauses.Free": ["__init__(*bars)", "barred(case, name)", "__eq__(other)", "__str__()"],
+    "customs.Named": ["__eq__(other)"],
+    "customs.Custom": ["__init__(sons, daughters, *, house=(), son_weds=None, daughter_weds=None)", "__call__(case)", "clauses(kind)",
+                       "wedding_rules(kind)", "barred(case, name)", "allows(case, name)",
+                       "house_at_birth(father_house, mother_house, father_given, mother_given)",
+                       "house_at_wedding(kind, own, mate)", "mirrored()", "__eq__(other)", "__str__()"],
+    "reads.Reads": ["places(kind)", "life_ways(kind)", "too_wide()", "check_width()", "__eq__(other)"],
+    "naming.Naming": ["__init__(custom, record)", "given_of(label)", "house_of(label)", "first_house_of(label)", "full_of(label)",
+                      "passed_of(label)", "clause_of(label)", "is_free(label)", "__len__()", "__iter__()", "__eq__(other)"],
+    "patterns.Pattern": ["__init__(entries)", "class_at(place)", "places_of(number)", "are_alike(one, other)", "at_places(places)",
+                         "__or__(other)", "__and__(other)", "__eq__(other)", "__len__()", "__iter__()"],
+    "joinings.Joining": ["__init__(one, other, links)", "number_in(number)", "turned()", "__eq__(other)"],
+    "states.PersonState": ["__init__(kind, names, lives, mark=0)", "__eq__(other)"],
+    "states.CoupleState": ["__init__(names, lives, sons, daughters, borne, marks=(0, 0))", "mark_of(class_number)", "__eq__(other)"],
+    "scopes.Scope": ["__init__(*customs, also=(), tracked=(), houses=False, followed=False)", "places(kind)", "life_ways(kind)",
+                     "asks_number(kind)", "custom_for(couple, kind)", "wedding_custom(kind, mark)", "first_marks(kind)",
+                     "child_mark(couple, kind)", "__eq__(other)"],
+    "steps.Step": ["__init__(deed, states, results)", "__eq__(other)"],
+}
+CONSTANTS = {
+    "records.MOST_ROWS": 5000, "records.MOST_NAME": 10 ** 30, "records.MOST_WIDTH": 2, "patterns.MOST_PLACES": 40,
+    "allpatterns.MOST_POOL": 10 ** 6,
+}
+GENERATORS = ("records.beginnings", "joinings.all_joinings", "joinings.all_joined", "allpatterns.all_patterns",
+              "allpatterns.name_rows", "steps.founder_steps", "steps.wedding_steps", "steps.following_steps")
+
+
+def thing_at(path):
+    module, _, name = path.partition(".")
+    return getattr(importlib.import_module(f"namesakes.{module}"), name)
+
+
+class InterfaceTest(unittest.TestCase):
+    def test_functions(self):
+        for module, calls in FUNCTIONS.items():
+            for call in calls:
+                name = call.partition("(")[0]
+                function = thing_at(f"{module}.{name}")
+                self.assertEqual(name + str(inspect.signature(function)), call)
+                self.assertEqual(function.__module__, f"namesakes.{module}")
+                self.assertEqual(inspect.isgeneratorfunction(function), f"{module}.{name}" in GENERATORS, name)
+
+    def test_classes(self):
+        for path, methods in CLASSES.items():
+            told = thing_at(path)
+            self.assertEqual(told.__module__, f"namesakes.{path.partition('.')[0]}")
+            for method in methods:
+                name, _, rest = method.partition("(")
+                signature = str(inspect.signature(vars(told)[name])).replace("(self, ", "(").replace("(self)", "()")
+                self.assertEqual(signature, "(" + rest, path)
+
+    def test_constants(self):
+        for path, worth in CONSTANTS.items():
+            self.assertEqual(thing_at(path), worth)
+
+    def test_properties_and_static_methods(self):
+        self.assertIsInstance(vars(thing_at("patterns.Pattern"))["class_count"], property)
+        self.assertIsInstance(vars(thing_at("patterns.Pattern"))["of_names"], staticmethod)
+        self.assertIsInstance(vars(thing_at("joinings.Joining"))["link_count"], property)
