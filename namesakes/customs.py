@@ -72,7 +72,7 @@ def _check_weddings(part, rules, width):
             raise BadCustom(part, index, "wedding")
 
 
-def _written_out(rules, width):
+def _rules_or_own(rules, width):
     return ("own",) * width if rules is None else tuple(rules)
 
 
@@ -97,8 +97,8 @@ class Custom:
         self.sons = tuple(sons)
         self.daughters = tuple(daughters)
         self.house = tuple([tuple(rule) for rule in house])
-        self.son_weds = _written_out(son_weds, width)
-        self.daughter_weds = _written_out(daughter_weds, width)
+        self.son_weds = _rules_or_own(son_weds, width)
+        self.daughter_weds = _rules_or_own(daughter_weds, width)
         self.width = width
 
     def clauses(self, kind):

@@ -34,6 +34,9 @@ BARRED_WORDS = re.compile(
     r"\b(typing|typing_extensions|enum|Enum|IntEnum|StrEnum|Flag|IntFlag|Generic|Protocol|ABC|ABCMeta|namedtuple"
     r"|NamedTuple|TypedDict|TYPE_CHECKING|abstractmethod)\b|dataclass|overload|contextmanager"
 )
+PLAIN_WORDS = re.compile(r"\b(_wall|_WallAttr)\b")
+BARRED_BEGINNINGS = ("_pe_", "_dcw_", "_enum_", "_cm_", "_twin_re_", "_lay_", "_law_", "_stub_", "_sre", "_WallAttr")
+BARRED_WHOLE = r"(_cold|_tuplegetter|_outside|_record|_written_out|_member_names)[0-9_]*"
 DUNDERS = set(
     "__init__ __eq__ __repr__ __str__ __len__ __enter__ __exit__ __call__ __iter__ __contains__ __or__ __and__".split()
 )
@@ -61,8 +64,36 @@ def text_faults(path):
             yield f"L14 {number}: sign"
     if BARRED_WORDS.search(text):
         yield "L17 word"
-    if "_wall" in text or "_WallAttr" in text:
+    if PLAIN_WORDS.search(text):
         yield "L12 word"
+
+
+def names_in(tree):
+    """(line, name, whether it is an attribute or a method) of all names of a file."""
+    methods = {item for node in ast.walk(tree) if isinstance(node, ast.ClassDef) for item in node.body}
+    for node in ast.walk(tree):
+        line = getattr(node, "lineno", 0)
+        if isinstance(node, ast.Attribute):
+            yield line, node.attr, True
+        elif isinstance(node, (ast.FunctionDef, ast.AsyncFunctionDef, ast.ClassDef)):
+            yield line, node.name, node in methods
+        for field in ("id", "arg", "asname", "rest"):
+            if isinstance(getattr(node, field, None), str):
+                yield line, getattr(node, field), False
+        if isinstance(node, (ast.alias, ast.ExceptHandler, ast.MatchAs, ast.MatchStar)) and node.name:
+            yield from ((line, name, False) for name in node.name.split("."))
+        if isinstance(node, ast.ImportFrom):
+            yield from ((line, name, False) for name in (node.module or "").split("."))
+        if isinstance(node, (ast.Global, ast.Nonlocal)):
+            yield from ((line, name, False) for name in node.names)
+
+
+def plain_name_faults(tree):
+    """Names that L12 does not let, wherever they stand in the file."""
+    for line, name, is_member in names_in(tree):
+        beginnings = BARRED_BEGINNINGS if is_member else ("_wall",) + BARRED_BEGINNINGS
+        if name.startswith(beginnings) or re.fullmatch(BARRED_WHOLE, name):
+            yield f"{line}: L12 {name}"
 
 
 def own_names(all_trees):
@@ -275,5 +306,6 @@ def all_faults():
         tree = all_trees[path.stem]
         found = list(text_faults(path)) + list(module_faults(path.stem, tree, all_trees))
         found += list(node_faults(tree, functions, generators, attributes))
+        found += list(plain_name_faults(tree))
         yield from (f"{path.name}: {fault}" for fault in found)
     yield from cycle_faults(all_trees)
