@@ -107,3 +107,10 @@ class CoupleState:
             and self.borne == other.borne
             and self.marks == other.marks
         )
+
+
+def state_key(state):
+    """A tuple that stands for the state as a key: alike for equal states alone."""
+    if isinstance(state, PersonState):
+        return (state.kind, state.names, state.lives, state.mark)
+    return (state.names, state.lives, state.sons, state.daughters, state.borne, state.marks)

@@ -134,6 +134,13 @@ def birth_names(scope, couple, kind):
     return tuple([number for number in range(many) if custom.barred(case, number) is None] + [None])
 
 
+def is_untracked_choice(scope, couple, deed):
+    """Whether a Free gives a class of which the couple does not keep who bears it."""
+    if deed[0] != "born" or deed[3] is None or couple.mark_of(deed[3]) is not None:
+        return False
+    return deed[2] == len(scope.custom_for(couple, deed[1]).clauses(deed[1])) - 1
+
+
 def _birth_steps(scope, couple, kind):
     case = case_of(scope, couple, kind)
     custom = scope.custom_for(couple, kind)

@@ -2,7 +2,7 @@
 
 from namesakes.clauses import Case
 from namesakes.errors import BadChoice
-from namesakes.records import WAYS
+from namesakes.records import KINDS, WAYS
 
 
 class Walk:
@@ -10,8 +10,7 @@ class Walk:
 
     def __init__(self, custom):
         self.custom = custom
-        # Kinds and parents are those of the persons who were born.
-        self.kinds = {}
+        # Those of the persons who were born.
         self.parents = {}
         self.dead = {}
         self.givens = {}
@@ -20,7 +19,13 @@ class Walk:
         self.clause_numbers = {}
         self.passed = {}
         self.frees = {}
+        # By couples: the children in the order of births, how many there are of
+        # each kind, and the names of all and of the living ones. These are kept,
+        # as a couple of a long record may have thousands of children.
         self.children = {}
+        self.numbers = {}
+        self.ever = {}
+        self.borne = {}
 
     def go(self, row):
         """Go on by one row; raise BadChoice for a choice that counts and is barred."""
@@ -39,7 +44,7 @@ class Walk:
                     raise BadChoice(row[4], name, bar)
             self._bear(row, named, name)
         else:
-            self.dead[row[1]] = True
+            self._bury(row[1])
 
     def case_of(self, father, mother, kind):
         """The Case of a child of this kind born to this couple now."""
@@ -49,11 +54,8 @@ class Walk:
             for place, name in enumerate(self.houses[parent]):
                 names[f"{letter}.{place}"] = name
         lives = {way: "dead" if elder in self.dead else "alive" for way, elder in elders.items()}
-        children = self.children[father, mother]
-        number = 1 + len([child for child in children if self.kinds[child] == kind])
-        ever = [self.givens[child] for child in children]
-        borne = [self.givens[child] for child in children if child not in self.dead]
-        return Case(kind, number, names, lives, borne, ever)
+        couple = (father, mother)
+        return Case(kind, 1 + self.numbers[couple][kind], names, lives, self.borne[couple], self.ever[couple])
 
     def _elders_of_child(self, father, mother):
         """The elders of a child of these two by the ways that lead to somebody."""
@@ -77,6 +79,9 @@ class Walk:
         self.houses[father] = self.custom.house_at_wedding("s", house, mate)
         self.houses[mother] = self.custom.house_at_wedding("d", mate, house)
         self.children[father, mother] = []
+        self.numbers[father, mother] = {kind: 0 for kind in KINDS}
+        self.ever[father, mother] = []
+        self.borne[father, mother] = []
 
     def _bear(self, row, named, name):
         father, mother, label = row[1], row[2], row[4]
@@ -84,9 +89,17 @@ class Walk:
             self.houses[father], self.houses[mother], self.givens[father], self.givens[mother]
         )
         self._bring(label, name, house)
-        self.kinds[label] = row[3]
         self.parents[label] = (father, mother)
         self.children[father, mother].append(label)
+        self.numbers[father, mother][row[3]] += 1
+        self.ever[father, mother].append(name)
+        self.borne[father, mother].append(name)
         self.clause_numbers[label] = named.index
         self.passed[label] = named.passed
         self.frees[label] = named.name is None
+
+    def _bury(self, label):
+        self.dead[label] = True
+        if label in self.parents:
+            couple = self.parents[label]
+            self.borne[couple] = [self.givens[child] for child in self.children[couple] if child not in self.dead]

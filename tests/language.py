@@ -200,11 +200,33 @@ def one_node_faults(node, parents, functions, generators, attributes):
             yield "L20 is"
     if isinstance(node, ast.JoinedStr) and "\n" in ast.unparse(node):
         yield "L27 f-string"
-    if isinstance(node, (ast.AnnAssign, ast.NamedExpr, ast.Lambda, ast.With, ast.Match, ast.Nonlocal)):
+    if isinstance(node, ast.With):
+        yield from with_faults(node)
+    if isinstance(node, (ast.AnnAssign, ast.NamedExpr, ast.Lambda, ast.Match, ast.Nonlocal)):
         yield f"{type(node).__name__} is not used so far: check its rule"
     if isinstance(node, ast.Raise) and node.exc is not None:
         if not (isinstance(node.exc, ast.Call) and isinstance(node.exc.func, ast.Name)):
             yield "L19 raise"
+
+
+def with_faults(node):
+    for item in node.items:
+        if not isinstance(item.context_expr, (ast.Call, ast.Name, ast.Attribute)):
+            yield "L6 with"
+        if item.optional_vars is not None and not isinstance(item.optional_vars, ast.Name):
+            yield "L6 with"
+
+
+def exit_faults(node):
+    """The rows of __exit__ only assign names and attributes to one another."""
+    for row in node.body:
+        plain = isinstance(row, ast.Assign) and all(is_simple(part) for part in [*row.targets, row.value])
+        if not plain and not isinstance(row, ast.Pass):
+            yield "L6 __exit__"
+
+
+def is_simple(node):
+    return isinstance(node, ast.Name) or isinstance(node, ast.Attribute) and is_simple(node.value)
 
 
 def catches_own(node):
@@ -241,6 +263,8 @@ def function_faults(node, parent):
         yield "L5 __iter__"
     if node.name == "__init__" and any(item is not None for item in returns):
         yield "L28 __init__"
+    if node.name == "__exit__":
+        yield from exit_faults(node)
 
 
 def is_text(node):

@@ -3,12 +3,15 @@
 import unittest
 
 from namesakes.allpatterns import all_patterns, how_many_patterns
-from namesakes.clauses import Dead, Free, Never, Take, Unborne
+from namesakes.changes import changed_custom
+from namesakes.choices import next_child
+from namesakes.clauses import Dead, Free, Never, Number, Take, Unborne
 from namesakes.customs import Custom
 from namesakes.joinings import all_joinings, joining_at
 from namesakes.kin import kinship_of
 from namesakes.moved import mirror_record
 from namesakes.naming import Naming
+from namesakes.paths import played_on, record_of
 from namesakes.patterns import Pattern
 from namesakes.reads import reads_of
 from namesakes.records import Record, record_fault
@@ -16,6 +19,7 @@ from namesakes.recordtext import record_text
 from namesakes.scopes import Scope
 from namesakes.states import PersonState
 from namesakes.steps import following_steps, founder_steps, wedding_steps
+from namesakes.tables import table_of
 
 
 class ExamplesTest(unittest.TestCase):
@@ -43,6 +47,7 @@ class ExamplesTest(unittest.TestCase):
         naming = Naming(custom, Record(0, rows))
         told = [(who, naming.given_of(who), naming.clause_of(who), naming.passed_of(who)) for who in ("c", "g", "h")]
         self.assertEqual(told, [("c", 3, 1, ("nobody",)), ("g", 1, 0, ()), ("h", 5, 1, (0,))])
+        self.assertEqual(next_child(naming, "c", "e", "s").barred, (1, 5))
 
     def test_patterns(self):
         self.assertEqual([pattern.entries for pattern in all_patterns(3)],
@@ -65,3 +70,20 @@ class ExamplesTest(unittest.TestCase):
         born = [step for step in following_steps(scope, couple) if step.deed[0] == "born"]
         self.assertEqual((born[0].deed, born[0].results[1]), (("born", "s", 1, 0), PersonState("s", (0, 0), ("alive",))))
         self.assertEqual((born[1].deed, born[1].results[1]), (("born", "s", 1, None), PersonState("s", (0, 1), ("alive",))))
+
+    def test_tables(self):
+        scope = Scope(Custom([Take("ff", Dead("ff"), Unborne()), Free("ff")], [Free()]))
+        table = table_of(scope)
+        daughters = [state for state in table.persons if state.kind == "d"]
+        self.assertEqual(daughters, [PersonState("d", (), ())])
+        self.assertIn(PersonState("s", (0, None), (None,)), table)
+        couples = [step.results[0] for step in wedding_steps(scope, PersonState("s", (0, None), (None,)), daughters[0])]
+        told = played_on(scope, record_of(table, couples[0]), (("born", "s", 1, 0), ("born", "s", 1, None)))
+        naming = Naming(scope.customs[0], told.record)
+        father = naming.given_of(told.labels[0])
+        self.assertEqual([naming.given_of(child) == father for child in told.children], [True, False])
+
+    def test_changes(self):
+        custom = Custom([Take("ff", Number(3)), Free("living")], [Free()])
+        pool = [("bar", "s", "ff"), ("number", "s", 0, None), ("unborne", "s", 0)]
+        self.assertEqual(str(changed_custom(custom, pool)).split("\n")[2:4], ["take ff if unborne", "free not living, ff"])

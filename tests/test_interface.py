@@ -25,6 +25,14 @@ FUNCTIONS = {
                     "how_many_rows(pattern, pool)", "name_rows(pattern, names)"],
     "steps": ["founder_steps(scope)", "wedding_steps(scope, father, mother)", "following_steps(scope, state)",
               "case_of(scope, couple, kind)", "birth_names(scope, couple, kind)"],
+    "tables": ["table_of(scope)"],
+    "closing": ["leaving_step(table)", "is_closed(table)"],
+    "paths": ["record_of(table, state)", "played_on(scope, told, deeds)"],
+    "elders": ["elder_namesakes(custom, way, kind, *, full=False)", "elder_fault(custom, way, kind, result, *, full=False)"],
+    "always": ["always_named(custom, kind, way, *, number=None, life=None)",
+               "always_fault(custom, kind, way, result, *, number=None, life=None)"],
+    "changes": ["changed_custom(custom, changes)"],
+    "choices": ["next_child(naming, father, mother, kind)", "settled_record(custom, record)"],
 }
 CLASSES = {
     "records.Record": ["__init__(width, rows=())", "kind_of(label)", "father_of(label)", "mother_of(label)", "elder_of(label, way)",
@@ -57,10 +65,22 @@ CLASSES = {
                      "asks_number(kind)", "custom_for(couple, kind)", "wedding_custom(kind, mark)", "first_marks(kind)",
                      "child_mark(couple, kind)", "__eq__(other)"],
     "steps.Step": ["__init__(deed, states, results)", "__eq__(other)"],
+    "tables.Table": ["__init__(scope, states)", "is_within(other)", "without(state)", "__or__(other)", "__and__(other)",
+                     "__eq__(other)", "__len__()", "__iter__()"],
+    "families.Family": ["__init__(record, one, other)"],
+    "families.NeverAlike": ["__init__(table, followed)"],
+    "families.Most": ["__init__(number, record, bearers, table, prices)"],
+    "families.Endless": ["__init__(record, father, mother, bearer, ring)"],
+    "families.Always": ["__init__(table, counted)"],
+    "families.ClauseUse": ["__init__(table, unused, used)"],
+    "paths.Told": ["__init__(state, record, labels, names, children=(), givens=(), marks=())"],
+    "choices.Coming": ["__init__(clause, name, house, passed, barred)"],
+    "chronicle.Chronicle": ["__init__(custom)", "say(row)", "say_all(rows)", "take_back()", "trial()", "tried(call)", "__len__()",
+                            "__iter__()"],
 }
 CONSTANTS = {
     "records.MOST_ROWS": 5000, "records.MOST_NAME": 10 ** 30, "records.MOST_WIDTH": 2, "patterns.MOST_PLACES": 40,
-    "allpatterns.MOST_POOL": 10 ** 6,
+    "allpatterns.MOST_POOL": 10 ** 6, "tables.MOST_STATES": 1000,
 }
 GENERATORS = ("records.beginnings", "joinings.all_joinings", "joinings.all_joined", "allpatterns.all_patterns",
               "allpatterns.name_rows", "steps.founder_steps", "steps.wedding_steps", "steps.following_steps")
@@ -98,3 +118,6 @@ class InterfaceTest(unittest.TestCase):
         self.assertIsInstance(vars(thing_at("patterns.Pattern"))["class_count"], property)
         self.assertIsInstance(vars(thing_at("patterns.Pattern"))["of_names"], staticmethod)
         self.assertIsInstance(vars(thing_at("joinings.Joining"))["link_count"], property)
+
+    def test_membership(self):
+        self.assertIn("__contains__", vars(thing_at("tables.Table")))
