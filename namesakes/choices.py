@@ -60,10 +60,10 @@ def _settled_birth(custom, walk, row):
     barred = _barred_names(custom.clauses(row[3])[-1].bars, case)
     if row[5] not in barred:
         return row
-    return row[:5] + (_least_other(barred),)
+    return row[:5] + (least_other(barred),)
 
 
-def _least_other(names):
+def least_other(names):
     """The least whole number that is none of these."""
     taken = {name: True for name in names}
     least = 0

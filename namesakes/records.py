@@ -170,7 +170,8 @@ def record_fault(width, rows):
     return _write_rows(Book(), width, rows)
 
 
-def _as_tuples(row):
+def as_tuples(row):
+    """The row, and what it holds, as tuples."""
     if row[0] == "comes":
         return (row[0], row[1], row[2], row[3], tuple(row[4]))
     return tuple(row)
@@ -185,7 +186,7 @@ class Record:
         if fault is not None:
             raise BadRecord(fault[0], fault[1])
         self.width = width
-        self.rows = tuple([_as_tuples(row) for row in rows])
+        self.rows = tuple([as_tuples(row) for row in rows])
         self.persons = tuple(book.kinds)
         self.founders = tuple([label for label in book.kinds if label not in book.parents])
         self.born = tuple(book.parents)

@@ -7,8 +7,11 @@ from namesakes.changes import changed_custom
 from namesakes.choices import next_child
 from namesakes.clauses import Dead, Free, Never, Number, Take, Unborne
 from namesakes.customs import Custom
+from namesakes.fillings import page_fillings, page_parents, page_verdict
 from namesakes.joinings import all_joinings, joining_at
 from namesakes.kin import kinship_of
+from namesakes.kinwords import kin_words
+from namesakes.linewords import line_words
 from namesakes.moved import mirror_record
 from namesakes.naming import Naming
 from namesakes.paths import played_on, record_of
@@ -17,6 +20,7 @@ from namesakes.reads import reads_of
 from namesakes.records import Record, record_fault
 from namesakes.recordtext import record_text
 from namesakes.scopes import Scope
+from namesakes.smudges import Page
 from namesakes.states import PersonState
 from namesakes.steps import following_steps, founder_steps, wedding_steps
 from namesakes.tables import table_of
@@ -87,3 +91,23 @@ class ExamplesTest(unittest.TestCase):
         custom = Custom([Take("ff", Number(3)), Free("living")], [Free()])
         pool = [("bar", "s", "ff"), ("number", "s", 0, None), ("unborne", "s", 0)]
         self.assertEqual(str(changed_custom(custom, pool)).split("\n")[2:4], ["take ff if unborne", "free not living, ff"])
+
+    def test_pages(self):
+        custom = Custom([Take("ff"), Free("living")], [Free()])
+        page = Page(custom, [("comes", "a", "s", 1, ()), ("comes", "b", "d", 2, ()), ("weds", "a", "b"),
+                             ("born", "a", "b", "s", "c", 3), ("comes", "e", "d", 4, ()), ("weds", "c", "e"),
+                             ("born", None, None, "s", "g", None)], [("g", 1)])
+        self.assertEqual(page.smudges, ((6, "parents"), (6, "choice")))
+        self.assertEqual([record.rows[6] for record in page_fillings(page)],
+                         [("born", "a", "b", "s", "g", 1), ("born", "c", "e", "s", "g", 1)])
+        self.assertEqual(page_verdict(page, lambda naming: naming.clause_of("g") == 0).word, "open")
+        self.assertEqual(page_parents(page.with_seen([("g", 3)]), "g"), ())
+
+    def test_ways(self):
+        custom = Custom([Take("ff", Number(1)), Free()], [Free()])
+        self.assertEqual(line_words(custom, ("founder", "s")).rooms, ((True, 1, None), (False, 0, None)))
+        self.assertEqual([(one.rooms, one == other, living) for one, other, living in kin_words(custom).products],
+                         [(((False, 1, None), (False, 2, None), (True, 1, None)), True, True)])
+        brothers = kin_words(Custom([Take("f", Unborne()), Free()], [Free()]))
+        self.assertEqual((brothers.lets("s", "s"), brothers.lets("s", "s", living=True), brothers.lets("ss", "s", living=True)),
+                         (True, False, True))

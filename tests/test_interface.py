@@ -33,6 +33,13 @@ FUNCTIONS = {
                "always_fault(custom, kind, way, result, *, number=None, life=None)"],
     "changes": ["changed_custom(custom, changes)"],
     "choices": ["next_child(naming, father, mother, kind)", "settled_record(custom, record)"],
+    "fillings": ["page_fault(page, record)", "page_fillings(page)", "how_many_fillings(page)", "first_filling(page)",
+                 "led_filling(page, record)", "page_parents(page, label)", "page_verdict(page, question)"],
+    "clashes": ["least_clashes(page)", "greatest_lots(page)"],
+    "fresh": ["fresh_fault(custom, record)", "places_of(custom, kind)", "state_in(custom, record, label)"],
+    "freshstates": ["fresh_states(custom)", "fresh_family(custom, state)"],
+    "linewords": ["line_words(custom, origin)"],
+    "kinwords": ["kin_words(custom, *, half=False)"],
 }
 CLASSES = {
     "records.Record": ["__init__(width, rows=())", "kind_of(label)", "father_of(label)", "mother_of(label)", "elder_of(label, way)",
@@ -77,13 +84,24 @@ CLASSES = {
     "choices.Coming": ["__init__(clause, name, house, passed, barred)"],
     "chronicle.Chronicle": ["__init__(custom)", "say(row)", "say_all(rows)", "take_back()", "trial()", "tried(call)", "__len__()",
                             "__iter__()"],
+    "smudges.Page": ["__init__(custom, rows, seen=())", "children()", "with_seen(seen)", "__eq__(other)", "__len__()", "__iter__()"],
+    "fillings.Verdict": ["__init__(word, one, other)"],
+    "freshstates.PersonFamily": ["__init__(record, label)"],
+    "lengths.Lengths": ["__init__(early, start, period, rest)", "__contains__(n)", "__eq__(other)"],
+    "machines.Machine": ["__init__(rooms)", "lets(word)", "how_many(length)", "words_let(most)", "lengths()", "parting_word(other)",
+                         "__contains__(word)", "__or__(other)", "__and__(other)", "__eq__(other)", "__len__()"],
+    "kinwords.KinWords": ["__init__(half, products)", "lets(one, other, *, living=False)"],
 }
 CONSTANTS = {
     "records.MOST_ROWS": 5000, "records.MOST_NAME": 10 ** 30, "records.MOST_WIDTH": 2, "patterns.MOST_PLACES": 40,
     "allpatterns.MOST_POOL": 10 ** 6, "tables.MOST_STATES": 1000,
+    "smudges.MOST_PAGE_ROWS": 60, "smudges.MOST_SMUDGES": 3, "smudges.MOST_SEEN": 5, "smudges.MOST_FILLINGS": 1000,
 }
 GENERATORS = ("records.beginnings", "joinings.all_joinings", "joinings.all_joined", "allpatterns.all_patterns",
-              "allpatterns.name_rows", "steps.founder_steps", "steps.wedding_steps", "steps.following_steps")
+              "allpatterns.name_rows", "steps.founder_steps", "steps.wedding_steps", "steps.following_steps",
+              "fillings.page_fillings")
+PROPERTIES = ("patterns.Pattern.class_count", "joinings.Joining.link_count", "machines.Machine.first_word", "lengths.Lengths.nearest",
+              "lengths.Lengths.farthest", "lengths.Lengths.is_endless")
 
 
 def thing_at(path):
@@ -115,9 +133,13 @@ class InterfaceTest(unittest.TestCase):
             self.assertEqual(thing_at(path), worth)
 
     def test_properties_and_static_methods(self):
-        self.assertIsInstance(vars(thing_at("patterns.Pattern"))["class_count"], property)
+        for path in PROPERTIES:
+            name, _, worth = path.rpartition(".")
+            self.assertIsInstance(vars(thing_at(name))[worth], property)
         self.assertIsInstance(vars(thing_at("patterns.Pattern"))["of_names"], staticmethod)
-        self.assertIsInstance(vars(thing_at("joinings.Joining"))["link_count"], property)
+
+    def test_methods_that_generate(self):
+        self.assertTrue(inspect.isgeneratorfunction(vars(thing_at("machines.Machine"))["words_let"]))
 
     def test_membership(self):
         self.assertIn("__contains__", vars(thing_at("tables.Table")))

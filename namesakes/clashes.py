@@ -1,0 +1,55 @@
+"""Clashes: seen names that no record can give together."""
+
+from namesakes.fillings import filled_records
+from namesakes.naming import Naming
+
+
+def _all_lots(many):
+    """All ascending tuples of indices below many, by size, then ascending."""
+    lots = [()]
+    for index in range(many):
+        lots = lots + [lot + (index,) for lot in lots]
+    return [lot for _, lot in sorted([(len(lot), lot) for lot in lots])]
+
+
+def _full_lots(page):
+    """For each record that may be the page without its seen names the lot that it gives."""
+    found = {}
+    seen = {}
+    rows = []
+    for record in filled_records(page, seen, rows):
+        naming = Naming(page.custom, record)
+        given = [index for index, (label, name) in enumerate(page.seen) if naming.given_of(label) == name]
+        found[tuple(given)] = True
+    return list(found)
+
+
+def _is_within(lot, other):
+    return all([index in other for index in lot])
+
+
+def _given_lots(page):
+    """All lots that some record gives, as keys of a dict, by size, then ascending."""
+    full = _full_lots(page)
+    lots = _all_lots(len(page.seen))
+    return {lot: True for lot in lots if any([_is_within(lot, other) for other in full])}
+
+
+def least_clashes(page):
+    """The least lots that no record gives."""
+    given = _given_lots(page)
+    found = []
+    for lot in _all_lots(len(page.seen)):
+        if lot not in given and not any([_is_within(other, lot) for other in found]):
+            found.append(lot)
+    return tuple(found)
+
+
+def greatest_lots(page):
+    """The greatest lots that some record gives."""
+    given = _given_lots(page)
+    found = []
+    for lot in given:
+        if not any([_is_within(lot, other) and lot != other for other in given]):
+            found.append(lot)
+    return tuple(found)
