@@ -18,14 +18,14 @@ class Carriers:
 
     def __init__(self, custom):
         self.world = FreshWorld(custom)
-        self.all = []
+        self.members = []
         self._numbers = {}
         for kind in KINDS:
             for person in self.world.persons[kind]:
                 for number in classes_of(person.entries):
-                    self._numbers[kind, person.entries, number] = len(self.all)
-                    self.all.append((kind, person.entries, number))
-        self._children = [{kind: {} for kind in KINDS} for _ in self.all]
+                    self._numbers[kind, person.entries, number] = len(self.members)
+                    self.members.append((kind, person.entries, number))
+        self._children = [{kind: {} for kind in KINDS} for _ in self.members]
         for father, mother, couple in self.world.couples:
             for number in range(couple.classes):
                 self._put_children(self.parent_at(father, mother, number), couple, number)
@@ -42,10 +42,8 @@ class Carriers:
 
     def child_at(self, couple, kind, name, number):
         """The carrier that such a child of the couple is of a class of the couple, or None."""
-        for carried, entry in couple.carried(kind, name):
-            if carried == number:
-                return self.number_of(kind, couple.child_entries(kind, name), entry)
-        return None
+        entry = couple.carried(kind, name, number)
+        return None if entry is None else self.number_of(kind, couple.child_entries(kind, name), entry)
 
     def _put_children(self, parent, couple, number):
         for kind, name in couple.births():
@@ -55,7 +53,7 @@ class Carriers:
 
     def is_bearer(self, carrier):
         """Whether the name is the person's own."""
-        return self.all[carrier][2] == 0
+        return self.members[carrier][2] == 0
 
     def children_of(self, carriers, kind):
         """The carriers that children of this kind of one of these can be, ascending."""
@@ -64,7 +62,7 @@ class Carriers:
 
 def classes_of(entries):
     """The class numbers of a person's entries, ascending."""
-    return range(1 + max([entry for entry in entries if entry is not None]))
+    return tuple(range(1 + max([entry for entry in entries if entry is not None])))
 
 
 def line_machine(carriers, is_end, sons, daughters):

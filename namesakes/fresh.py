@@ -1,10 +1,9 @@
 """Fresh records: strangers' names are all unlike, and no kin wed."""
 
-from namesakes.errors import BadKind, BadWidth, NoWays
+from namesakes.errors import BadWidth, NoWays
 from namesakes.naming import Naming
 from namesakes.patterns import numbered
 from namesakes.reads import reads_of
-from namesakes.records import is_kind
 from namesakes.walk import Walk
 
 
@@ -55,8 +54,6 @@ def fresh_fault(custom, record):
 def places_of(custom, kind):
     """The places that a person of this kind brings, its own name first."""
     check_ways(custom)
-    if not is_kind(kind):
-        raise BadKind(kind)
     return ("",) + tuple([place for place in reads_of(custom).places(kind) if place != ""])
 
 

@@ -112,13 +112,10 @@ class FreshCouple:
         """The entries of such a child."""
         return tuple(numbered(self.child_numbers(kind, name)))
 
-    def carried(self, kind, name):
-        """Pairs (class of the couple, class of the child) of what such a child carries on."""
-        pairs = {}
-        for number, entry in zip(self.child_numbers(kind, name), self.child_entries(kind, name)):
-            if number is not None and number < self.classes:
-                pairs[number] = entry
-        return [(number, pairs[number]) for number in pairs]
+    def carried(self, kind, name, number):
+        """The class of such a child that is this class of the couple, or None."""
+        numbers = self.child_numbers(kind, name)
+        return self.child_entries(kind, name)[numbers.index(number)] if number in numbers else None
 
 
 def _apart(father, mother):

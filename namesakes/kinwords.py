@@ -51,13 +51,13 @@ def branch_machine(carriers, branch):
 
 def _branch_of_child(carriers, child):
     """The branch that begins with this carrier alone."""
-    return ((child,), ()) if carriers.all[child][0] == "s" else ((), (child,))
+    return ((child,), ()) if carriers.members[child][0] == "s" else ((), (child,))
 
 
 def half_triples(carriers):
     """The branches behind each carrier, by one mate and by another one."""
     found = []
-    for number in range(len(carriers.all)):
+    for number in range(len(carriers.members)):
         branch = (carriers.children_of((number,), "s"), carriers.children_of((number,), "d"))
         found.append((branch, branch, True))
     return found
@@ -102,7 +102,7 @@ def births_behind(couple, key, spared):
         for deed, behind in situation.deeds:
             if deed[0] == "born":
                 found[deed[1], deed[2]] = True
-            if behind not in met and (deed[0] == "born" or deed[1] != spared):
+            if behind not in met and deed != ("bearers", spared):
                 met[behind] = True
                 waiting.append(behind)
     return list(found)

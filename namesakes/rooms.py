@@ -1,13 +1,12 @@
 """Rooms of machines: the least ones that let the same words."""
 
+# Those of the machine that lets nothing.
 NOTHING = ((False, None, None),)
 
 
 def least_rooms(rooms):
     """The rooms of the least machine that lets the same words, numbered as they are first met."""
     useful = _useful_rooms(rooms)
-    if not useful[0]:
-        return NOTHING
     trimmed = []
     for is_end, son, daughter in rooms:
         trimmed.append((is_end, _if_useful(useful, son), _if_useful(useful, daughter)))

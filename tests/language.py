@@ -305,6 +305,10 @@ def call_faults(node, parent, functions, generators, attributes):
         yield "L8 type"
     if name in ("zip", "enumerate", "reversed") and not iterated(node, parent):
         yield f"L23 {name} is kept"
+    if name == "range" and isinstance(parent, (ast.Return, ast.List, ast.Tuple, ast.Dict)):
+        yield "L23 range is kept"
+    if getattr(node.func, "attr", "") in ("items", "keys", "values") and not iterated(node, parent):
+        yield f"L23 {node.func.attr} is kept"
     called = name or getattr(node.func, "attr", None)
     if called in generators:
         if not iterated(node, parent):

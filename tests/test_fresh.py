@@ -6,12 +6,14 @@ from namesakes.clauses import Alive, Dead, Free, Never, Number, Take, Unborne, U
 from namesakes.customs import Custom
 from namesakes.errors import BadChoice, BadKind, BadWidth, NoPerson, NoState, NoWays, TooWide
 from namesakes.fresh import fresh_fault, places_of, state_in
-from namesakes.freshstates import PersonFamily, fresh_family, fresh_states
+from namesakes.freshcouples import FreshCouple, FreshReads
+from namesakes.freshpersons import deeds_to
+from namesakes.freshstates import PersonFamily, Writing, fresh_family, fresh_states, write_deeds
 from namesakes.kinwords import kin_words
 from namesakes.linewords import line_words
 from namesakes.records import Record
 from tests.checks import Checks
-from tests.families import ODD_THINGS, AlwaysEqual
+from tests.families import ODD_THINGS, AlwaysEqual, label_at
 from tests.freshworlds import chance_ways_custom, grown_worlds
 
 FREE = [Free()]
@@ -182,6 +184,34 @@ class StateTest(Checks):
                 self.assertEqual(state_in(custom, record, family.label), state)
                 self.assertTrue(record.is_alive(family.label))
                 self.assertIsNone(record.mate_of(family.label))
+
+    def test_deeds_lead_to_each_situation_of_a_couple(self):
+        custom = Custom([Take("f", Never(), Number(2)), Take("m", Unborne()), Free()], [Take("f", Unborne(), Number(2)), Free()])
+        couple = FreshCouple(FreshReads(custom), (0,), (0,))
+        self.assertGreater(len(couple.situations), 40)
+        for key, situation in couple.situations.items():
+            at = (0, 0, (0, 0))
+            for deed in deeds_to(situation):
+                at = dict(couple.situations[at].deeds)[deed]
+            self.assertEqual(at, key)
+        self.assertEqual(sorted(couple.births(), key=repr), [("d", 0), ("d", None), ("s", 0), ("s", 1), ("s", None)])
+
+    def test_deeds_are_written_out(self):
+        writing = Writing(1)
+        father, mother = writing.come("s"), writing.come("d")
+        writing.wed(father, mother)
+        deeds = [("born", "s", 0), ("born", "d", None), ("born", "s", 0), ("born", "d", 1), ("bearers", 0), ("born", "s", 0)]
+        living = write_deeds(writing, father, mother, deeds, [("zz", 1)])
+        record = writing.finished()
+        children = record.children_of(father, mother)
+        self.assertEqual([record.kind_of(child) for child in children], list("sdsds"))
+        self.assertEqual(record.rows[7:9], (("dies", children[0]), ("dies", children[2])))
+        self.assertEqual(living, [("zz", 1), (children[1], None), (children[3], 1), (children[4], 0)])
+        self.assertEqual(len({row[3] if row[0] == "comes" else row[5] for row in record if row[0] in ("comes", "born")}), 7)
+        writing.rows = [("comes", label_at(number), "s", number, (0,)) for number in range(5000)]
+        self.assertEqual(len(writing.finished()), 5000)
+        writing.rows.append(("dies", "aa"))
+        self.refused(TooWide, ("rows",), writing.finished)
 
     def test_states_that_are_none(self):
         wrong = ODD_THINGS + (

@@ -3,6 +3,7 @@
 import itertools
 import random
 
+from namesakes.carriers import line_machine
 from namesakes.clauses import Free, Never, Number, Take, Unborne, Unlike
 from namesakes.customs import Custom
 from namesakes.errors import BadOrigin, BadWord, TooWide
@@ -153,10 +154,31 @@ class KinTest(Checks):
         self.assertEqual((kin.lets("s", "s"), kin.lets("s", "s", living=True), kin.lets("ss", "s", living=True), kin.lets("s", "ss", living=True)),
                          (True, False, True, True))
 
+    def test_two_ways_to_one_pair_of_machines(self):
+        # Two daughters have their mother's mother's name, one behind the other's death, whether that is their
+        # mother's name, too, or not.
+        custom = Custom(FREE, [Take("m", Never()), Take("mm", Unborne()), Free("mm")])
+        kin = kin_words(custom)
+        self.assertEqual((kin.lets("d", "d"), kin.lets("d", "d", living=True), kin.lets("d", "dd", living=True)), (True, False, True))
+
     def test_more_letters(self):
         kin = kin_words(ELDEST)
         self.assertTrue(kin.lets("s" * 400, "s" * 2))
         self.assertFalse(kin.lets("s" * 401, "s" * 2))
+
+
+class RoomsTest(Checks):
+    def test_too_many_rooms(self):
+        class Endless:
+            """Carriers whose lots never come again."""
+
+            def children_of(self, lot, kind):
+                return (lot[0] + 1,)
+
+            def is_bearer(self, carrier):
+                return True
+
+        self.refused(TooWide, ("rooms",), line_machine, Endless(), True, (0,), (0,))
 
 
 class RecordsTest(Checks):
