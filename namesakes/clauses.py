@@ -227,6 +227,10 @@ class Take:
         """Whether it asks for names of the couple's children."""
         return any([isinstance(condition, (Unborne, Never)) for condition in self.conditions])
 
+    def counts_living(self):
+        """Whether it asks for names of the couple's living children."""
+        return any([isinstance(condition, Unborne) for condition in self.conditions])
+
     def mirrored(self):
         """The clause with the letters f and m exchanged."""
         conditions = [condition.mirrored() for condition in self.conditions]
@@ -280,6 +284,10 @@ class Free:
     def counts_children(self):
         """Whether it bars names of the couple's children."""
         return any([word in self.bars for word in BAR_WORDS])
+
+    def counts_living(self):
+        """Whether it bars names of the couple's living children."""
+        return "living" in self.bars
 
     def mirrored(self):
         """The clause with the letters f and m exchanged in its sources."""

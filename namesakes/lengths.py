@@ -55,7 +55,7 @@ def least_lengths(members, start):
     The least period and then the least start are found.
     """
     again = members[start:]
-    period = _least_period(again)
+    period = least_period(again)
     # A number ahead of the round can belong to it, if it is like the one a period later.
     while start > 0 and members[start - 1] == members[start - 1 + period]:
         start = start - 1
@@ -63,7 +63,7 @@ def least_lengths(members, start):
     return Lengths(early, start, period, tuple([n for n in range(period) if members[start + n]]))
 
 
-def _least_period(again):
+def least_period(again):
     """The least number of entries that, said over and over, give the same."""
     many = len(again)
     for period in range(1, many):

@@ -1,8 +1,8 @@
 """Paths: records that lead to a state, and how they go on."""
 
 from namesakes.errors import BadPlay, NeverComes, TooWide
-from namesakes.plays import Play, as_child, come, follow, wed
-from namesakes.records import MOST_ROWS, Record
+from namesakes.plays import Play, as_child, come, follow, played_record, wed
+from namesakes.records import MOST_ROWS
 from namesakes.states import CoupleState, PersonState, state_key
 from namesakes.steps import following_steps
 
@@ -65,21 +65,9 @@ def _play_arrival(play, tops, arrival):
         tops.append(top)
 
 
-def _named_row(play, row):
-    """The row with what its names have become."""
-    if row[0] == "comes":
-        house = tuple([play.name_now(name) for name in row[4]])
-        return (row[0], row[1], row[2], play.name_now(row[3]), house)
-    if row[0] == "born":
-        return row[:5] + (play.name_now(row[5]),)
-    return row
-
-
 def _told(play, top, marks):
     """What is told of the play at its end."""
-    if len(play.rows) > MOST_ROWS:
-        raise TooWide("rows")
-    record = Record(play.scope.width, [_named_row(play, row) for row in play.rows])
+    record = played_record(play)
     names = tuple([None if name is None else play.name_now(name) for name in top.names])
     givens = tuple([(label, play.name_now(play.givens[label])) for label in record.persons])
     return Told(top.state, record, top.labels, names, top.children, givens, tuple(marks))

@@ -4,8 +4,9 @@ A name that is new in the rows of one side of a wedding can be made alike to one
 the other side behind the fact: no custom has compared the two so far.
 """
 
+from namesakes.errors import TooWide
 from namesakes.patterns import Pattern
-from namesakes.records import KINDS
+from namesakes.records import KINDS, MOST_ROWS, Record
 from namesakes.states import PersonState
 
 LETTERS = "abcdefghijklmnopqrstuvwxyz"
@@ -118,6 +119,23 @@ class Play:
         self.parents[label] = couple
         self.rows.append(("born", couple[0], couple[1], kind, label, name))
         return label
+
+
+def _named_row(play, row):
+    """The row with what its names have become."""
+    if row[0] == "comes":
+        house = tuple([play.name_now(name) for name in row[4]])
+        return (row[0], row[1], row[2], play.name_now(row[3]), house)
+    if row[0] == "born":
+        return row[:5] + (play.name_now(row[5]),)
+    return row
+
+
+def played_record(play):
+    """The record of the rows so far."""
+    if len(play.rows) > MOST_ROWS:
+        raise TooWide("rows")
+    return Record(play.scope.width, [_named_row(play, row) for row in play.rows])
 
 
 def _class_names(play, state, labels):

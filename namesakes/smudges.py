@@ -49,6 +49,14 @@ def _write(book, index, row):
         book.write(index, row)
 
 
+def book_ahead(page, index):
+    """The book of the page's rows ahead of this one."""
+    book = Book()
+    for number, row in enumerate(page.rows[:index]):
+        _write(book, number, row)
+    return book
+
+
 class Reading:
     """The smudges of the rows read so far, and how many couples there are at each."""
 

@@ -35,16 +35,21 @@ class Walk:
             self._wed(row[1], row[2])
         elif row[0] == "born":
             case = self.case_of(row[1], row[2], row[3])
-            named = self.custom(case)
+            custom = self.custom_of_child(row[1], row[2], row[3])
+            named = custom(case)
             name = named.name
             if name is None:
                 name = row[5]
-                bar = self.custom.barred(case, name)
+                bar = custom.barred(case, name)
                 if bar is not None:
                     raise BadChoice(row[4], name, bar)
             self._bear(row, named, name)
         else:
             self._bury(row[1])
+
+    def custom_of_child(self, father, mother, kind):
+        """The custom that names a child of this kind of the couple; its house rules are those of all."""
+        return self.custom
 
     def case_of(self, father, mother, kind):
         """The Case of a child of this kind born to this couple now."""

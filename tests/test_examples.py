@@ -2,15 +2,20 @@
 
 import unittest
 
+from namesakes.alikes import namesakes_among
 from namesakes.allpatterns import all_patterns, how_many_patterns
 from namesakes.changes import changed_custom
 from namesakes.choices import next_child
 from namesakes.clauses import Dead, Free, Never, Number, Take, Unborne
 from namesakes.customs import Custom
+from namesakes.degrees import can_be_namesakes, degrees
 from namesakes.fillings import page_fillings, page_parents, page_verdict
+from namesakes.hangs import Hanging
 from namesakes.joinings import all_joinings, joining_at
 from namesakes.kin import kinship_of
 from namesakes.kinwords import kin_words
+from namesakes.lands import Land, LandNaming
+from namesakes.lines import Line
 from namesakes.linewords import line_words
 from namesakes.moved import mirror_record
 from namesakes.naming import Naming
@@ -24,6 +29,7 @@ from namesakes.smudges import Page
 from namesakes.states import PersonState
 from namesakes.steps import following_steps, founder_steps, wedding_steps
 from namesakes.tables import table_of
+from namesakes.within import Parted, are_alike, is_custom_within, within_fault
 
 
 class ExamplesTest(unittest.TestCase):
@@ -111,3 +117,36 @@ class ExamplesTest(unittest.TestCase):
         brothers = kin_words(Custom([Take("f", Unborne()), Free()], [Free()]))
         self.assertEqual((brothers.lets("s", "s"), brothers.lets("s", "s", living=True), brothers.lets("ss", "s", living=True)),
                          (True, False, True))
+        told = degrees(custom)
+        self.assertEqual((told.early, told.start, told.period, told.rest), ((), 0, 2, (1,)))
+        self.assertEqual((degrees(custom, half=True).period, can_be_namesakes(custom, 10 ** 30, 3)), (1, False))
+
+    def test_hangs(self):
+        custom = Custom([Take("ff", Unborne()), Free("living")], [Take("mm"), Free("ever")])
+        rows = [("comes", "a", "s", 1, ()), ("comes", "b", "d", 2, ()), ("weds", "a", "b"),
+                ("born", "a", "b", "s", "c", 3), ("comes", "e", "d", 4, ()), ("weds", "c", "e"),
+                ("born", "c", "e", "s", "g", 9), ("born", "c", "e", "s", "h", 5)]
+        self.assertEqual(Hanging(custom, Record(0, rows)).on(7), (3, 4, 5, 6))
+
+    def test_lines(self):
+        custom = Custom([Take("ff", Number(1)), Take("f", Number(2)), Free()], [Free()])
+        eldest, second = Line(custom, [], [("s", 1)]), Line(custom, [], [("s", 2)])
+        self.assertEqual([eldest.origin_at(n) for n in (1, 2, 3, 4)], [("own", 1), ("first", "f"), ("own", 1), ("first", "f")])
+        self.assertEqual((eldest.cycle, eldest.settled, eldest.stays), (2, 1, (0, 1)))
+        self.assertEqual((second.origin_at(1), second.origin_at(10 ** 300), second.cycle, second.stays), (("first", "f"), ("first", "f"), 1, (0,)))
+        daughters = Line(custom, [], [("d", 1)])
+        self.assertEqual((daughters.origin_at(5), daughters.cycle, daughters.stays), (("own", 5), 1, ()))
+
+    def test_two_customs(self):
+        strict = Custom([Take("ff", Number(1)), Free("ff", "ever")], [Free("ff", "ever")])
+        never = Custom([Take("ff", Never(), Number(1)), Free("ever", "ff")], [Free("ever", "ff")])
+        loose = Custom([Take("ff", Number(1)), Free("ff")], [Free("ff", "ever")])
+        self.assertEqual((are_alike(strict, never), is_custom_within(strict, loose), is_custom_within(loose, strict)), (True, True, False))
+        rows = [("comes", "a", "s", 1, ()), ("comes", "b", "d", 2, ()), ("weds", "a", "b"),
+                ("born", "a", "b", "s", "c", 3), ("born", "a", "b", "s", "e", 3)]
+        self.assertIsNone(within_fault(loose, strict, Parted(Record(0, rows), 0)))
+        land = Land(strict, strict.mirrored(), Land.CHILD)
+        rows = rows[:4] + [("comes", "e", "d", 4, ()), ("weds", "c", "e"),
+                           ("born", "c", "e", "d", "g", 1), ("born", "c", "e", "s", "h", 9)]
+        naming = LandNaming(land, Record(0, rows), ("e",))
+        self.assertEqual((naming.side_of("g"), naming.given_of("g"), naming.given_of("h"), namesakes_among(naming)), (1, 1, 1, (("g", "h"),)))

@@ -40,6 +40,15 @@ FUNCTIONS = {
     "freshstates": ["fresh_states(custom)", "fresh_family(custom, state)"],
     "linewords": ["line_words(custom, origin)"],
     "kinwords": ["kin_words(custom, *, half=False)"],
+    "degrees": ["degrees(custom, *, half=False)", "can_be_namesakes(custom, up, down, *, half=False)"],
+    "hangs": ["named_alone(custom, record, label)"],
+    "twocustoms": ["keeps_custom(custom, record)", "write_choices(custom, record)", "first_unkept(custom, record)", "pair_scope(one, other)",
+                   "let_names(scope, custom, couple, kind)"],
+    "within": ["within_custom(one, other)", "alike_customs(one, other)", "is_custom_within(one, other)", "are_alike(one, other)",
+               "within_fault(one, other, result)", "alike_fault(one, other, result)"],
+    "landtables": ["land_scope(land, *more, tracked=(), followed=False)", "land_siblings(land)", "land_siblings_fault(land, result)",
+                   "land_within(land, custom)"],
+    "lineforms": ["back_after(line, n)", "bearers_of(line, origin)", "lasting_origins(line)", "line_record(line, many)"],
 }
 CLASSES = {
     "records.Record": ["__init__(width, rows=())", "kind_of(label)", "father_of(label)", "mother_of(label)", "elder_of(label, way)",
@@ -91,10 +100,24 @@ CLASSES = {
     "machines.Machine": ["__init__(rooms)", "lets(word)", "how_many(length)", "words_let(most)", "lengths()", "parting_word(other)",
                          "__contains__(word)", "__or__(other)", "__and__(other)", "__eq__(other)", "__len__()"],
     "kinwords.KinWords": ["__init__(half, products)", "lets(one, other, *, living=False)"],
+    "desk.Desk": ["__init__(page)", "hear(notice)", "forget(notice)", "trial()", "tried(call)", "__len__()", "__iter__()"],
+    "hangs.Hanging": ["__init__(custom, record)", "on(index)", "cone(index)", "order_fault(order)", "reordered(order)"],
+    "lands.Land": ["__init__(one, other, decides)", "mirrored()", "__eq__(other)"],
+    "lands.LandNaming": ["__init__(land, record, second=())", "side_of(label)", "given_of(label)", "clause_of(label)"],
+    "within.Within": ["__init__(table)", "__eq__(other)"],
+    "within.Alike": ["__init__(table)", "__eq__(other)"],
+    "within.Parted": ["__init__(record, keeper)", "__eq__(other)"],
+    "landtables.LandNever": ["__init__(table)", "__eq__(other)"],
+    "landtables.LandFamily": ["__init__(record, second, one, other)", "__eq__(other)"],
+    "landtables.LandParted": ["__init__(record, second)", "__eq__(other)"],
+    "lines.Line": ["__init__(custom, start, again, *, elders=False)", "origin_at(n)", "step_at(n)", "clause_at(n)"],
+    "lineforms.Bearers": ["__init__(numbers, remainders, cycle)", "__eq__(other)"],
+    "lineforms.LineRecord": ["__init__(record, father, mates, persons)"],
 }
 CONSTANTS = {
     "records.MOST_ROWS": 5000, "records.MOST_NAME": 10 ** 30, "records.MOST_WIDTH": 2, "patterns.MOST_PLACES": 40,
     "allpatterns.MOST_POOL": 10 ** 6, "tables.MOST_STATES": 1000,
+    "lands.Land.FATHER": "father", "lands.Land.MOTHER": "mother", "lands.Land.CHILD": "child",
     "smudges.MOST_PAGE_ROWS": 60, "smudges.MOST_SMUDGES": 3, "smudges.MOST_SEEN": 5, "smudges.MOST_FILLINGS": 1000,
 }
 GENERATORS = ("records.beginnings", "joinings.all_joinings", "joinings.all_joined", "allpatterns.all_patterns",
@@ -105,8 +128,11 @@ PROPERTIES = ("patterns.Pattern.class_count", "joinings.Joining.link_count", "ma
 
 
 def thing_at(path):
-    module, _, name = path.partition(".")
-    return getattr(importlib.import_module(f"namesakes.{module}"), name)
+    module, *names = path.split(".")
+    thing = importlib.import_module(f"namesakes.{module}")
+    for name in names:
+        thing = getattr(thing, name)
+    return thing
 
 
 class InterfaceTest(unittest.TestCase):
