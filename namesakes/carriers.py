@@ -5,12 +5,25 @@ on nothing but the persons of the line and on their places.
 """
 
 from namesakes.errors import TooWide
-from namesakes.freshpersons import FreshWorld
+from namesakes.freshpersons import FreshWorld, deeds_to
 from namesakes.machines import Machine
 from namesakes.records import KINDS
 from namesakes.rooms import least_rooms
 
 MOST_ROOMS = 20000
+
+
+class Handing:
+    """How a parent hands a name on to a child: by a couple with a mate, and the situation ahead of the birth.
+
+    `rows` counts those of the mate, of the wedding, of the deeds and of the birth.
+    """
+
+    def __init__(self, mate, kind, situation):
+        self.mate = mate
+        self.kind = kind
+        self.situation = situation
+        self.rows = mate.rows + 2 + len(deeds_to(situation))
 
 
 class Carriers:
@@ -25,10 +38,10 @@ class Carriers:
                 for number in classes_of(person.entries):
                     self._numbers[kind, person.entries, number] = len(self.members)
                     self.members.append((kind, person.entries, number))
+        # For each carrier and kind: its children, and how the name is handed on to each.
         self._children = [{kind: {} for kind in KINDS} for _ in self.members]
         for father, mother, couple in self.world.couples:
-            for number in range(couple.classes):
-                self._put_children(self.parent_at(father, mother, number), couple, number)
+            self._put_children(father, mother, couple)
 
     def number_of(self, kind, entries, number):
         return self._numbers[kind, entries, number]
@@ -45,11 +58,24 @@ class Carriers:
         entry = couple.carried(kind, name, number)
         return None if entry is None else self.number_of(kind, couple.child_entries(kind, name), entry)
 
-    def _put_children(self, parent, couple, number):
-        for kind, name in couple.births():
-            child = self.child_at(couple, kind, name, number)
-            if child is not None:
-                self._children[parent][kind][child] = True
+    def _put_children(self, father, mother, couple):
+        births = couple.births()
+        for number in range(couple.classes):
+            parent = self.parent_at(father, mother, number)
+            mate = mother if self.members[parent][0] == "s" else father
+            for kind, name in births:
+                child = self.child_at(couple, kind, name, number)
+                if child is not None:
+                    self._put_handing(parent, child, Handing(mate, kind, births[kind, name]))
+
+    def _put_handing(self, parent, child, handing):
+        known = self._children[parent][handing.kind].get(child)
+        if known is None or handing.rows < known.rows:
+            self._children[parent][handing.kind][child] = handing
+
+    def handings(self, carrier, kind):
+        """By the carriers that children of this kind of this one can be: how the name is handed on."""
+        return dict(self._children[carrier][kind])
 
     def is_bearer(self, carrier):
         """Whether the name is the person's own."""

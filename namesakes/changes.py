@@ -38,6 +38,14 @@ def _change_fault(custom, change):
     return None
 
 
+def check_changes(custom, changes):
+    """Raise BadChange for the first change that is wrong as it is written."""
+    for index, change in enumerate(changes):
+        what = _change_fault(custom, change)
+        if what is not None:
+            raise BadChange(index, what)
+
+
 class Draft:
     """The clauses of a kind while they are changed.
 
@@ -92,10 +100,7 @@ def changed_custom(custom, changes):
     """The custom with these changes made, one after another."""
     if not is_sequence(changes) or len(changes) > MOST_CHANGES:
         raise BadChange(0, "changes")
-    for index, change in enumerate(changes):
-        what = _change_fault(custom, change)
-        if what is not None:
-            raise BadChange(index, what)
+    check_changes(custom, changes)
     drafts = {kind: Draft(custom.clauses(kind)) for kind in KINDS}
     for index, change in enumerate(changes):
         draft = drafts[change[1]]

@@ -1,15 +1,8 @@
 """Clashes: seen names that no record can give together."""
 
 from namesakes.fillings import filled_records
+from namesakes.lots import is_lot_within, ordered_lots
 from namesakes.naming import Naming
-
-
-def _all_lots(many):
-    """All ascending tuples of indices below many, by size, then ascending."""
-    lots = [()]
-    for index in range(many):
-        lots = lots + [lot + (index,) for lot in lots]
-    return [lot for _, lot in sorted([(len(lot), lot) for lot in lots])]
 
 
 def _full_lots(page):
@@ -24,23 +17,19 @@ def _full_lots(page):
     return list(found)
 
 
-def _is_within(lot, other):
-    return all([index in other for index in lot])
-
-
 def _given_lots(page):
     """All lots that some record gives, as keys of a dict, by size, then ascending."""
     full = _full_lots(page)
-    lots = _all_lots(len(page.seen))
-    return {lot: True for lot in lots if any([_is_within(lot, other) for other in full])}
+    lots = ordered_lots(len(page.seen))
+    return {lot: True for lot in lots if any([is_lot_within(lot, other) for other in full])}
 
 
 def least_clashes(page):
     """The least lots that no record gives."""
     given = _given_lots(page)
     found = []
-    for lot in _all_lots(len(page.seen)):
-        if lot not in given and not any([_is_within(other, lot) for other in found]):
+    for lot in ordered_lots(len(page.seen)):
+        if lot not in given and not any([is_lot_within(other, lot) for other in found]):
             found.append(lot)
     return tuple(found)
 
@@ -50,6 +39,6 @@ def greatest_lots(page):
     given = _given_lots(page)
     found = []
     for lot in given:
-        if not any([_is_within(lot, other) and lot != other for other in given]):
+        if not any([is_lot_within(lot, other) and lot != other for other in given]):
             found.append(lot)
     return tuple(found)

@@ -13,7 +13,7 @@ class FreshReads:
 
     def __init__(self, custom):
         self.custom = custom
-        self.places = {kind: places_of(custom, kind) for kind in KINDS}
+        self.kind_places = {kind: places_of(custom, kind) for kind in KINDS}
         self.numbered = reads_of(custom).numbered
         takes = custom.sons[:-1] + custom.daughters[:-1]
         self.counted = [take.source for take in takes if take.counts_children()]
@@ -45,7 +45,7 @@ class FreshCouple:
     def __init__(self, reads, father, mother):
         self.reads = reads
         brought = _apart(father, mother)
-        sources = [f"{letter}{place}" for letter in PARENT_KIND for place in reads.places[PARENT_KIND[letter]]]
+        sources = [f"{letter}{place}" for letter in PARENT_KIND for place in reads.kind_places[PARENT_KIND[letter]]]
         self.names = dict(zip(sources, brought))
         self.classes = 1 + max([number for number in brought if number is not None])
         counted = [self.names[source] for source in reads.counted if self.names[source] is not None]
@@ -95,18 +95,19 @@ class FreshCouple:
         return self.reads.custom(Case(kind, born + 1, self.names, {}, borne, ever)).name
 
     def births(self):
-        """The pairs (kind, name) of all births that can be."""
+        """By the pairs (kind, name) of all births that can be: a situation of few deeds in which they can."""
         found = {}
         for key in self.situations:
-            for deed, _ in self.situations[key].deeds:
+            situation = self.situations[key]
+            for deed, _ in situation.deeds:
                 if deed[0] == "born":
-                    found[deed[1], deed[2]] = True
-        return list(found)
+                    found.setdefault((deed[1], deed[2]), situation)
+        return found
 
     def child_numbers(self, kind, name):
         """At each place of such a child the couple's class, or the next number for a chosen name."""
         own = self.classes if name is None else name
-        return [own if place == "" else self.names[place] for place in self.reads.places[kind]]
+        return [own if place == "" else self.names[place] for place in self.reads.kind_places[kind]]
 
     def child_entries(self, kind, name):
         """The entries of such a child."""

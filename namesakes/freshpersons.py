@@ -29,13 +29,13 @@ class FreshWorld:
         self.reads = FreshReads(custom)
         self.persons = {kind: [] for kind in KINDS}
         self.couples = []
-        # States of children whose name was chosen.
+        # By state: a person whose name was chosen, one that comes with few rows.
         self.free = {}
         self._settled = {}
         self._met = []
         self._queue = []
         for kind in KINDS:
-            entries = (0,) + (None,) * (len(self.reads.places[kind]) - 1)
+            entries = (0,) + (None,) * (len(self.reads.kind_places[kind]) - 1)
             self._meet(FreshPerson(kind, entries, None, None, None, None, 1))
         while self._queue:
             self._settle()
@@ -70,10 +70,16 @@ class FreshWorld:
             for kind in KINDS:
                 name = couple.name_of(situation, kind)
                 entries = couple.child_entries(kind, name)
+                person = FreshPerson(kind, entries, couple, (situation, name), father, mother, rows)
                 if name is None:
-                    self.free[kind, entries] = True
+                    self._keep_free(person)
                 if (kind, entries) not in self._settled:
-                    self._meet(FreshPerson(kind, entries, couple, (situation, name), father, mother, rows))
+                    self._meet(person)
+
+    def _keep_free(self, person):
+        key = (person.kind, person.entries)
+        if key not in self.free or person.rows < self.free[key].rows:
+            self.free[key] = person
 
 
 def deeds_to(situation):

@@ -11,7 +11,7 @@ from namesakes.records import is_kind, is_sequence, is_whole
 MOST_START = 6
 MOST_AGAIN = 6
 MOST_STEP = 4
-MOST_GENERATION = 10 ** 300
+MOST_GENERATION = (10 ** 60) ** 5
 
 
 def _is_step(thing):

@@ -29,11 +29,17 @@ def line_words(custom, origin):
 
 def origin_carriers(carriers, origin):
     """The carriers of their own name that persons of this origin can be."""
+    persons = origin_persons(carriers, origin)
+    return [carriers.number_of(person.kind, person.entries, 0) for person in persons]
+
+
+def origin_persons(carriers, origin):
+    """A person of this origin of each state, as it comes with few rows."""
     how, kind = origin
-    found = []
-    for person in carriers.world.persons[kind]:
-        is_founder = person.couple is None
-        is_free = (kind, person.entries) in carriers.world.free
-        if how == ANY or how == FOUNDER and is_founder or how == FREE and is_free:
-            found.append(carriers.number_of(kind, person.entries, 0))
-    return found
+    persons = carriers.world.persons[kind]
+    if how == FOUNDER:
+        return [person for person in persons if person.couple is None]
+    if how == FREE:
+        free = carriers.world.free
+        return [free[kind, person.entries] for person in persons if (kind, person.entries) in free]
+    return list(persons)

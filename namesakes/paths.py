@@ -4,7 +4,7 @@ from namesakes.errors import BadPlay, NeverComes, TooWide
 from namesakes.plays import Play, as_child, come, follow, played_record, wed
 from namesakes.records import MOST_ROWS
 from namesakes.states import CoupleState, PersonState, state_key
-from namesakes.steps import following_steps
+from namesakes.steps import step_of
 
 
 class Told:
@@ -79,26 +79,11 @@ def played_on(scope, told, deeds):
     play.take_in(told.record, told.givens)
     top = told
     for index, deed in enumerate(deeds):
-        step = _step_of(scope, top.state, deed)
+        step = step_of(scope, top.state, deed)
         if step is None or _is_barred(play, top, step):
             raise BadPlay(index)
         top = follow(play, top, step)
     return _told(play, top, told.marks)
-
-
-def _step_of(scope, state, deed):
-    """The following step with this deed, or None."""
-    for step in following_steps(scope, state):
-        if _is_same_deed(step.deed, deed):
-            return step
-    return None
-
-
-def _is_same_deed(deed, thing):
-    """Whether the thing is the deed, numbers and truths told apart."""
-    if not isinstance(thing, tuple) or len(thing) != len(deed):
-        return False
-    return all([type(part) is type(item) and part == item for part, item in zip(deed, thing)])
 
 
 def _is_barred(play, top, step):

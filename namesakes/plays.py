@@ -228,6 +228,12 @@ def _follow_birth(play, top, step):
     return Top(step.results[0], top.labels, names, top.children + (child,))
 
 
+def bear_again(play, top, step, given):
+    """Write out a birth by this step at which the child gets the given name of an elder one."""
+    child = play.bear(top.labels, step.deed[1], given)
+    return Top(step.results[0], top.labels, top.names, top.children + (child,))
+
+
 def _follow_mate(play, top, step):
     """The father or the mother dies; go on with the other one."""
     state = step.results[0]

@@ -205,3 +205,18 @@ def _mate_steps(scope, couple):
     yield Step(("mate", "f"), (couple,), (mother,))
     father = PersonState("s", numbered(couple.names[:places]), couple.lives[:ways], couple.marks[0])
     yield Step(("mate", "m"), (couple,), (father,))
+
+
+def step_of(scope, state, deed):
+    """The following step with this deed, or None."""
+    for step in following_steps(scope, state):
+        if _is_same_deed(step.deed, deed):
+            return step
+    return None
+
+
+def _is_same_deed(deed, thing):
+    """Whether the thing is the deed, numbers and truths told apart."""
+    if not isinstance(thing, tuple) or len(thing) != len(deed):
+        return False
+    return all([type(part) is type(item) and part == item for part, item in zip(deed, thing)])

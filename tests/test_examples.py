@@ -1,4 +1,4 @@
-"""The examples that stand in the document, as far as they need no later part."""
+"""The examples that stand in the document."""
 
 import unittest
 
@@ -17,6 +17,7 @@ from namesakes.kinwords import kin_words
 from namesakes.lands import Land, LandNaming
 from namesakes.lines import Line
 from namesakes.linewords import line_words
+from namesakes.mends import cheapest_mend, good_lots, spoilers
 from namesakes.moved import mirror_record
 from namesakes.naming import Naming
 from namesakes.paths import played_on, record_of
@@ -24,6 +25,7 @@ from namesakes.patterns import Pattern
 from namesakes.reads import reads_of
 from namesakes.records import Record, record_fault
 from namesakes.recordtext import record_text
+from namesakes.roots import Roots
 from namesakes.scopes import Scope
 from namesakes.smudges import Page
 from namesakes.states import PersonState
@@ -150,3 +152,17 @@ class ExamplesTest(unittest.TestCase):
                            ("born", "c", "e", "d", "g", 1), ("born", "c", "e", "s", "h", 9)]
         naming = LandNaming(land, Record(0, rows), ("e",))
         self.assertEqual((naming.side_of("g"), naming.given_of("g"), naming.given_of("h"), namesakes_among(naming)), (1, 1, 1, (("g", "h"),)))
+
+    def test_roots(self):
+        custom = Custom([Take("ff", Unborne()), Free("living")], [Take("mm"), Free("ever")])
+        rows = [("comes", "a", "s", 1, ()), ("comes", "b", "d", 2, ()), ("weds", "a", "b"),
+                ("born", "a", "b", "s", "c", 3), ("comes", "e", "d", 4, ()), ("weds", "c", "e"),
+                ("born", "c", "e", "s", "g", 9), ("born", "c", "e", "s", "h", 5)]
+        self.assertEqual(Roots(custom, Record(0, rows)).chain("g"), ((6, "g", "given"), (0, "a", "given")))
+
+    def test_mends(self):
+        custom = Custom([Take("ff", Number(3)), Free("living")], [Free()])
+        pool = [("bar", "s", "ff"), ("number", "s", 0, None), ("unborne", "s", 0)]
+        self.assertEqual(good_lots(custom, pool, "ss"), ((0,), (2,), (0, 2), (1, 2), (0, 1, 2)))
+        self.assertEqual([row[:2] for row in spoilers(custom, pool, "ss")], [((0,), 1)])
+        self.assertEqual(cheapest_mend(custom, pool, (7, 1, 4), "ss"), (4, (2,)))

@@ -48,6 +48,18 @@ FUNCTIONS = {
                "within_fault(one, other, result)", "alike_fault(one, other, result)"],
     "landtables": ["land_scope(land, *more, tracked=(), followed=False)", "land_siblings(land)", "land_siblings_fault(land, result)",
                    "land_within(land, custom)"],
+    "linepairs": ["parted_at(one, other)", "agreed_from(one, other)", "mirrored_line(line)"],
+    "siblings": ["sibling_namesakes(custom, kinds)", "siblings_fault(custom, kinds, result)"],
+    "mends": ["all_lots(many)", "good_lots(custom, pool, kinds='any')", "least_mends(custom, pool, kinds='any')",
+              "mends_fault(custom, pool, kinds, mends)", "spoilers(custom, pool, kinds='any')",
+              "cheapest_mend(custom, pool, prices, kinds='any')"],
+    "readings": ["person_state_of(scope, naming, label)", "couple_state_of(scope, naming, father, mother)", "states_in(scope, naming)"],
+    "rings": ["most_namesakes(custom, kind=None)", "ring_said(custom, endless, times)"],
+    "ringjudge": ["most_fault(custom, kind, result)"],
+    "unused": ["clause_use(custom)", "use_fault(custom, result)"],
+    "wayfamilies": ["way_family(custom, origin, word)", "way_fault(custom, origin, word, family)",
+                    "kin_family(custom, one, other, *, half=False, living=False)",
+                    "kin_fault(custom, one, other, family, *, half=False, living=False)"],
     "lineforms": ["back_after(line, n)", "bearers_of(line, origin)", "lasting_origins(line)", "line_record(line, many)"],
 }
 CLASSES = {
@@ -113,16 +125,20 @@ CLASSES = {
     "lines.Line": ["__init__(custom, start, again, *, elders=False)", "origin_at(n)", "step_at(n)", "clause_at(n)"],
     "lineforms.Bearers": ["__init__(numbers, remainders, cycle)", "__eq__(other)"],
     "lineforms.LineRecord": ["__init__(record, father, mates, persons)"],
+    "mends.Mends": ["__init__(good, bad, unmade)"],
+    "roots.Roots": ["__init__(custom, record)", "chain(label, what='given')", "root(label, what='given')", "bearers(root)"],
+    "wayfamilies.WayFamily": ["__init__(record, first, last)"],
+    "wayfamilies.KinFamily": ["__init__(record, parting, one, other)"],
 }
 CONSTANTS = {
     "records.MOST_ROWS": 5000, "records.MOST_NAME": 10 ** 30, "records.MOST_WIDTH": 2, "patterns.MOST_PLACES": 40,
-    "allpatterns.MOST_POOL": 10 ** 6, "tables.MOST_STATES": 1000,
+    "allpatterns.MOST_POOL": 10 ** 6, "tables.MOST_STATES": 1000, "wayfamilies.MOST_WORD": 12,
     "lands.Land.FATHER": "father", "lands.Land.MOTHER": "mother", "lands.Land.CHILD": "child",
     "smudges.MOST_PAGE_ROWS": 60, "smudges.MOST_SMUDGES": 3, "smudges.MOST_SEEN": 5, "smudges.MOST_FILLINGS": 1000,
 }
 GENERATORS = ("records.beginnings", "joinings.all_joinings", "joinings.all_joined", "allpatterns.all_patterns",
               "allpatterns.name_rows", "steps.founder_steps", "steps.wedding_steps", "steps.following_steps",
-              "fillings.page_fillings")
+              "fillings.page_fillings", "mends.all_lots")
 PROPERTIES = ("patterns.Pattern.class_count", "joinings.Joining.link_count", "machines.Machine.first_word", "lengths.Lengths.nearest",
               "lengths.Lengths.farthest", "lengths.Lengths.is_endless")
 
