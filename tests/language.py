@@ -8,6 +8,8 @@ import builtins
 import pathlib
 import re
 
+from tests.runs import double_name_faults
+
 PACKAGE = pathlib.Path(__file__).resolve().parent.parent / "namesakes"
 LIBRARY = {
     "heapq": {"heappush", "heappop", "heapify", "heapreplace", "heappushpop"},
@@ -191,7 +193,7 @@ def one_node_faults(node, parents, functions, generators, attributes):
         yield "L24 set"
     if isinstance(node, ast.BinOp) and isinstance(node.op, (ast.Div, ast.MatMult)):
         yield "L7 operator"
-    if isinstance(node, ast.BinOp) and isinstance(node.op, ast.Pow) and not isinstance(node.right, ast.Constant):
+    if isinstance(node, ast.BinOp) and isinstance(node.op, ast.Pow) and not is_exponent(node.right):
         yield "L27 exponent"
     if isinstance(node, ast.Compare) and any(isinstance(op, (ast.Is, ast.IsNot)) for op in node.ops):
         right = node.comparators[0]
@@ -207,6 +209,10 @@ def one_node_faults(node, parents, functions, generators, attributes):
     if isinstance(node, ast.Raise) and node.exc is not None:
         if not (isinstance(node.exc, ast.Call) and isinstance(node.exc.func, ast.Name)):
             yield "L19 raise"
+
+
+def is_exponent(node):
+    return isinstance(node, ast.Constant) and isinstance(node.value, int) and 0 <= node.value <= 64
 
 
 def with_faults(node):
@@ -337,3 +343,4 @@ def all_faults():
         found += list(plain_name_faults(tree))
         yield from (f"{path.name}: {fault}" for fault in found)
     yield from cycle_faults(all_trees)
+    yield from double_name_faults(all_trees)
