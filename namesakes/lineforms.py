@@ -1,7 +1,6 @@
 """Forms of lines: who of a line has one name, and lines written out as records."""
 
 from namesakes.errors import BadGeneration, BadLine
-from namesakes.lines import check_generation
 from namesakes.plays import label_at
 from namesakes.records import OTHER_KIND, Record, is_whole
 
@@ -37,7 +36,6 @@ class LineRecord:
 
 def back_after(line, n):
     """Behind how many persons the name of person n comes again, or None."""
-    check_generation(n)
     bearers = bearers_of(line, line.origin_at(n))
     later = [number for number in bearers.numbers if number > n]
     first = max(n + 1, line.settled)

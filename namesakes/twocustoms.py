@@ -78,8 +78,6 @@ def bars_differ(customs):
 
 def pair_scope(one, other):
     """The scope by which two customs of one house rule are compared; births are those of the first one."""
-    if not isinstance(one, Custom):
-        raise BadPair(0, "custom")
     customs = (one, other)
     check_pairs(one, customs)
     return Scope(one, other, tracked=sources_to_track(customs), followed=bars_differ(customs))

@@ -20,14 +20,9 @@ def _births_by_clause(table):
     found = {}
     for couple in table.couples:
         for step in following_steps(table.scope, couple):
-            # A Free is found with a new name, which no record bars.
-            if step.deed[0] == "born" and (step.deed[3] is None or not _is_free(table.scope, step.deed)):
+            if step.deed[0] == "born":
                 found.setdefault((step.deed[1], step.deed[2]), (couple, step.deed))
     return found
-
-
-def _is_free(scope, deed):
-    return deed[2] == len(scope.customs[0].clauses(deed[1])) - 1
 
 
 def clause_use(custom):

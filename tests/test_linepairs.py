@@ -2,7 +2,7 @@
 
 import random
 
-from namesakes.clauses import Free, Number, Take, Unlike
+from namesakes.clauses import Free, Number, Take, Unborne, Unlike
 from namesakes.customs import Custom
 from namesakes.errors import UnlikePlans
 from namesakes.linepairs import agreed_from, mirrored_line, parted_at
@@ -42,6 +42,11 @@ class PairTest(Checks):
         self.assertEqual([Line(later, [], [("s", 1)]).origin_at(n) for n in (1, 2, 3)], [("own", 1), ("own", 1), ("own", 1)])
         self.assertEqual(self.told(later, PLAIN, [], [("s", 1)]), (2, None))
         self.assertEqual(self.told(stays, later, [], [("s", 1)]), (1, None))
+        # Alike all along the first round behind which both are settled, and then not.
+        custom = Custom([Take("mmf"), Take("mm", Unborne(), Number(2)), Free()], FREE)
+        start, again = [("d", 4), ("s", 3)], [("s", 2), ("d", 1), ("d", 4)]
+        self.assertEqual(max(Line(told, start, again).settled for told in (custom, PLAIN)), 1)
+        self.assertEqual(self.told(custom, PLAIN, start, again), (6, None))
 
     def test_parted_and_agreeing_again(self):
         self.assertEqual(self.told(FATHERS, PLAIN, [("s", 1)], [("d", 1)]), (1, 2))

@@ -91,6 +91,7 @@ class ByHandTest(Checks):
         self.refused(BadScope, ("followed",), person_state_of, scope, self.naming, "x")
         self.refused(BadScope, ("followed",), couple_state_of, scope, self.naming, "x", "y")
         self.refused(BadScope, ("followed",), states_in, scope, self.naming)
+        self.refused(BadScope, ("followed",), states_in, scope, Naming(self.naming.custom, Record(0)))
 
 
 class ChanceTest(Checks):

@@ -3,6 +3,7 @@
 import itertools
 import random
 
+from namesakes.bearings import bearing_of
 from namesakes.clauses import Alive, Dead, Free, Never, Number, Take, Unborne, Unlike
 from namesakes.customs import Custom
 from namesakes.errors import BadAsked, TooWide
@@ -135,6 +136,13 @@ class AskTest(AskCase):
         self.assertEqual({kind for kind, _, _ in paper.followed}, {"s"})
         self.assertEqual({kind for kind, _, _ in sibling_namesakes(BARRED, "sd").followed}, {"s", "d"})
 
+    def test_births_between_the_two(self):
+        # The second son takes his mother's name, so only the third one can have the first one's.
+        custom = Custom([Take("m", Number(2)), Free("m")], [Free("living", "m")])
+        self.assertEqual(self.told(custom), [True, False, True, True])
+        result = sibling_namesakes(custom, "ss")
+        self.assertGreaterEqual(len(result.record.siblings_of(result.one)), 2)
+
     def test_couples_who_are_dead(self):
         record = Record(0, ROWS + [("dies", "a"), ("dies", "b")])
         self.assertIsNone(siblings_fault(PLAIN, "ss", Family(record, "c", "e")))
@@ -151,6 +159,17 @@ class AskTest(AskCase):
         self.refused(TooWide, ("states",), sibling_namesakes, states, "ss")
         self.assertEqual(siblings_fault(states, "ss", NeverAlike(Table(Scope(states), []), ())), "table")
         self.refused(TooWide, ("tracked",), sibling_namesakes, Custom([Take("f"), Take("m"), Take("ff"), Free("ever")], FREE), "any")
+
+
+class BearingTest(Checks):
+    def test_the_bearers_name_is_that_of_its_birth(self):
+        table = table_of(Scope(PLAIN))
+        couple = next(couple for couple in table.couples if couple.is_new)
+        bearing = bearing_of(table, couple, [("born", "s", 0, None), ("born", "d", 0, None), ("born", "d", 0, "bearer"), ("born", "s", 0, None), ("born", "s", 0, "bearer")])
+        naming = Naming(PLAIN, bearing.record)
+        self.assertEqual(bearing.children, bearing.record.children_of(*bearing.labels))
+        names = [naming.given_of(child) for child in bearing.children]
+        self.assertEqual([names.index(name) for name in names], [0, 1, 0, 3, 0])
 
 
 class FamilyWordsTest(Checks):
@@ -235,6 +254,26 @@ class PaperWordsTest(Checks):
         self.assertIsNone(self.fault(alone, kinds="ss"))
         lone = next(couple for kind, name, couple in followed if kind == "d" and name is None and couple.is_new)
         self.assertEqual(self.fault(alone + (("d", None, lone),), kinds="ss"), "step")
+
+    def test_more_entries_than_must_be(self):
+        # Sons never have the father's name. From a state in which nobody living has it, a daughter's Free gives it,
+        # but not again, so what that leads to need not stand there.
+        custom = Custom([Free("f", "living")], [Take("f", Unborne(), Number(2)), Free("living")])
+        paper = sibling_namesakes(custom, "ss")
+        self.assertEqual({name for _, name, _ in paper.followed}, {None})
+        more = {}
+        waiting = [couple for couple in paper.table.couples if couple.is_new][:1]
+        while waiting:
+            couple = waiting.pop()
+            if key(couple) not in more:
+                more[key(couple)] = couple
+                waiting += [step.results[0] for step in following(custom, paper.table.scope, couple, 0)]
+        entries = tuple(("s", 0, couple) for couple in more.values())
+        self.assertIsNone(siblings_fault(custom, "ss", NeverAlike(paper.table, paper.followed + entries)))
+        skipped = [step.results[0] for couple in more.values() for step in following_steps(paper.table.scope, couple) if step.deed[0] == "born" and step.deed[3] == 0 and not again(custom, step.deed)]
+        self.assertTrue([couple for couple in skipped if key(couple) not in more])
+        for at in range(len(entries)):
+            self.assertIn(siblings_fault(custom, "ss", NeverAlike(paper.table, paper.followed + entries[:at] + entries[at + 1:])), (None, "step"))
 
     def test_again(self):
         custom = Custom([Take("f"), Free("living", "f")], [Free("living", "f")])

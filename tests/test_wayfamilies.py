@@ -3,13 +3,16 @@
 import itertools
 import random
 
+from namesakes.carriers import Carriers
 from namesakes.clauses import Free, Never, Number, Take, Unborne, Unlike
 from namesakes.customs import Custom
+from namesakes.descents import Descents
 from namesakes.errors import BadLength, BadOrigin, BadWord, NotLet, NoWays, TooWide
 from namesakes.fresh import check_ways, fresh_fault
 from namesakes.kinwords import kin_words
 from namesakes.linewords import line_words
 from namesakes.naming import Naming
+from namesakes.partings import _deeds_between, _partings_of
 from namesakes.records import Record
 from namesakes.wayfamilies import MOST_WORD, KinFamily, WayFamily, kin_family, kin_fault, way_family, way_fault
 from tests.checks import Checks
@@ -210,6 +213,9 @@ class KinTest(Checks):
     def test_the_document(self):
         self.assertEqual([self.has(BROTHERS, *pair, living=living) for pair, living in ((("s", "s"), False), (("s", "s"), True), (("ss", "s"), True))], [True, False, True])
         self.assertEqual([self.has(BROTHERS, "s", "ss", living=living) for living in (False, True)], [True, True])
+        # Unless it is asked, the two are full kin and need not live.
+        self.assertTrue(self.has(BROTHERS, "s", "s"))
+        self.assertFalse(self.has(ELDEST, "s", "s"))
 
     def test_full_and_half_kin(self):
         once = Custom([Take("f", Never()), Free()], FREE)
@@ -225,6 +231,28 @@ class KinTest(Checks):
         father = told.record.father_of(told.one)
         self.assertFalse(told.record.is_alive(father))
         self.assertLess(told.record.row_of(told.one), told.record.row_of(told.other))
+
+    def test_the_deeds_between_the_births_stand_in_order(self):
+        rng = random.Random(713)
+        longest = 0
+        # The first son takes his mother's name, the second one chooses, the third one takes his father's.
+        by_turns = Custom([Take("f", Number(3), Unlike("mm", "m")), Take("m", Never(), Unlike("m", "mf")), Free("mm")],
+                          [Take("ff", Number(3)), Take("mf", Unlike("f", "mm")), Free("f")])
+        for custom in [by_turns] + [chance_ways_custom(rng) for _ in range(20)]:
+            try:
+                carriers = Carriers(custom)
+            except TooWide:
+                continue
+            for one, other in (("s", "s"), ("d", "s"), ("s", "d"), ("ds", "s")):
+                descents = (Descents(carriers, one), Descents(carriers, other))
+                for father, mother, couple in carriers.world.couples:
+                    for parting in _partings_of(carriers, father, mother, couple, descents, False)[:200]:
+                        deeds = _deeds_between(parting)
+                        longest = max(longest, len(deeds))
+                        situation = parting.situation
+                        for deed in [("born", *parting.pair[0]), *deeds, ("born", *parting.pair[1])]:
+                            situation = couple.situations[dict(situation.deeds)[deed]]
+        self.assertGreater(longest, 1)
 
     def test_empty_and_long_words(self):
         for half in (False, True):
@@ -294,6 +322,9 @@ class KinJudgeTest(Checks):
         self.assertIsNone(self.fault("ss", "ss", "akn", custom=ELDEST))
         self.assertEqual(self.fault("s", "s", "ace", custom=ELDEST), "name")
         self.assertEqual(self.fault("s", "ss", "acn", custom=ELDEST), "name")
+        # One of the two has the parting person's name, the other one has not.
+        for labels, words in (("ake", ("ss", "s")), ("aek", ("s", "ss"))):
+            self.assertEqual(self.fault(*words, labels, custom=ELDEST), "name")
         # The name came in with an elder of the parting person.
         rows = ROWS[:4] + [("comes", "l", "d", 5, ()), ("weds", "c", "l"), ("born", "c", "l", "s", "k", 6), ("born", "c", "l", "s", "n", 8)]
         self.assertIsNone(self.fault("s", "s", "ckn", rows))

@@ -6,14 +6,14 @@ import random
 from namesakes.carriers import line_machine
 from namesakes.clauses import Free, Never, Number, Take, Unborne, Unlike
 from namesakes.customs import Custom
-from namesakes.errors import BadOrigin, BadWord, TooWide
+from namesakes.errors import BadOrigin, BadWord, NoWays, TooWide
 from namesakes.fresh import check_ways, fresh_fault
 from namesakes.kinwords import KinWords, kin_words
 from namesakes.linewords import line_words
 from namesakes.machines import Machine
 from tests.checks import Checks
 from tests.families import ODD_THINGS, AlwaysEqual
-from tests.freshworlds import chance_ways_custom, grown_worlds
+from tests.freshworlds import ALIVE, chance_ways_custom, grown_worlds
 from tests.test_machines import EVERYTHING, NOTHING
 
 FREE = [Free()]
@@ -64,6 +64,7 @@ class LineTest(Checks):
                               (AlwaysEqual(), "s"), ("any", AlwaysEqual()), {"any": 1, "s": 2})
         for origin in wrong:
             self.refused(BadOrigin, (origin,), line_words, ELDEST, origin)
+            self.refused(NoWays, ("lives",), line_words, ALIVE, origin)
 
 
 class KinTest(Checks):
