@@ -1,10 +1,12 @@
-"""Helpers: knots of nodes, and dearest ways through nets."""
+"""Helpers: knots of nodes, dearest ways through nets, and labels in a row."""
 
 import random
 import unittest
 
 from namesakes.knots import knots_of
 from namesakes.nets import Edge, Net
+from namesakes.plays import label_at
+from namesakes.records import is_label
 
 
 def reached(behind):
@@ -101,3 +103,11 @@ class WaysTest(unittest.TestCase):
         self.assertIsNone(net.endless_edge())
         net.edges[1][0].counts = True
         self.assertEqual(net.endless_edge(), (1, net.edges[1][0]))
+
+
+class LabelsTest(unittest.TestCase):
+    def test_labels_in_a_row(self):
+        self.assertEqual([label_at(number) for number in (0, 1, 25, 26, 27, 51, 52, 701, 702, 703)], ["a", "b", "z", "aa", "ab", "az", "ba", "zz", "aaa", "aab"])
+        labels = [label_at(number) for number in range(20000)]
+        self.assertEqual(len(set(labels)), 20000)
+        self.assertTrue(all(is_label(label) for label in labels))
